@@ -1,0 +1,1 @@
+"""Slowshelves: webs laid on a slow disk."""

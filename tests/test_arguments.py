@@ -1,0 +1,117 @@
+"""Promises 1 to 3 and the interface: names, wrong values at each argument, the order of errors."""
+
+import importlib
+import unittest
+
+from slowshelves import blocks, calm, shelves
+from slowshelves.errors import ShelfError
+from tests.support import ANY, Case, parameter_names
+from tests.wrongs import KINDS, LAYOUT, SHELF, WEB
+
+S = ("shelf", SHELF, "shelf")
+W = ("web", WEB, "web")
+L = ("layout", LAYOUT, "layout")
+LB = ("layout", LAYOUT, "layout beside")
+ROOMS = ("rooms", 2, "rooms")
+ROOM = ("room", 2, "room")
+ANY_VALUE = ("value", None, "any")
+
+# For each function its arguments: name, a good one, the kind of wrong ones.
+FUNCTIONS = {
+    shelves: {
+        "need_shelf": [("value", SHELF, "shelf")],
+        "shelf_links": [S],
+        "linked_cells": [S],
+        "cell_parts": [S],
+        "list_shelf": [("cells", 3, "cells to 200")],
+        "ring_shelf": [("cells", 3, "cells from 3")],
+    },
+    blocks: {
+        "need_web": [("value", WEB, "web")],
+        "neighbours": [W],
+        "web_parts": [W],
+        "need_block": [W, ("value", 3, "block")],
+        "need_rooms": [("value", 2, "rooms")],
+        "need_room": [("value", 2, "room")],
+        "plain_layout": [("value", LAYOUT, "layout")],
+        "need_layout": [S, ROOM, ("value", LAYOUT, "layout in 2")],
+        "layout_blocks": [L],
+        "layout_web": [S, LB],
+        "run_layout": [("cells", 5, "cells to 200"), ROOM],
+        "joined_layout": [L, ("one", 0, "one"), ("other", 2, "other")],
+        "web_shelf": [W],
+        "layout_count": [("cells", 4, "cells to 30"), ROOM],
+        "nth_layout": [("cells", 4, "cells to 30"), ROOM, ("number", 9, "index")],
+        "layout_number": [("cells", 4, "cells to 30"), ROOM, ("layout", LAYOUT, "layout in 2")],
+        "need_fold": [W, ("value", (0, 1, 0, 2), "fold")],
+        "folded_web": [W, ("fold", (0, 1, 0, 2), "fold")],
+    },
+    calm: {
+        "calm_paper": [W, ROOMS],
+        "calm_holds": [W, ROOMS, ANY_VALUE],
+        "is_calm": [W, ROOMS],
+        "calm_rooms": [W],
+        "safe_begins": [W, ROOMS],
+    },
+}
+
+
+class TestArguments(Case):
+    def each(self):
+        for module, table in FUNCTIONS.items():
+            for name, arguments in table.items():
+                yield getattr(module, name), [row[0] for row in arguments], [row[1:] for row in arguments]
+
+    def test_names(self):
+        for function, names, _ in self.each():
+            self.assertEqual(names, parameter_names(function), function.__name__)
+
+    def test_modules(self):
+        for module, table in FUNCTIONS.items():
+            self.assertIs(module, importlib.import_module(module.__name__))
+            for name in table:
+                self.assertEqual(module.__name__, getattr(module, name).__module__)
+
+    def test_good_ones_raise_nothing(self):
+        for function, _, rows in self.each():
+            self.tell(function, *[good for good, _ in rows])
+
+    def test_each_wrong_value_at_each_argument(self):
+        for function, _, rows in self.each():
+            good = [row[0] for row in rows]
+            for at, (_, kind) in enumerate(rows):
+                for wrong, error in KINDS[kind]:
+                    self.fails(error, function, *good[:at], wrong, *good[at + 1:])
+
+    def test_errors_come_in_the_order_of_the_arguments(self):
+        for function, _, rows in self.each():
+            good = [row[0] for row in rows]
+            for at, (_, kind) in enumerate(rows):
+                later = [KINDS[other][0][0] if KINDS[other] else None for _, other in rows[at + 1:]]
+                for wrong, error in KINDS[kind][::7]:
+                    self.fails(error, function, *good[:at], wrong, *later)
+
+    def test_any_values_raise_own_errors_alone(self):
+        for function, _, rows in self.each():
+            good = [row[0] for row in rows]
+            for at in range(len(rows)):
+                for value in ANY:
+                    try:
+                        function(*good[:at], value, *good[at + 1:])
+                    except ShelfError:
+                        pass
+
+    def test_a_later_call_is_not_changed_by_an_earlier_one(self):
+        for function, _, rows in self.each():
+            good = [row[0] for row in rows]
+            first = function(*good)
+            for wrong, _ in KINDS[rows[0][1]][:9]:
+                try:
+                    function(wrong, *good[1:])
+                except ShelfError:
+                    pass
+            self.assertEqual(repr(first), repr(function(*good)))
+
+
+if __name__ == "__main__":
+    unittest.main()

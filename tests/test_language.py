@@ -1,0 +1,218 @@
+"""The form of the package's files: the rules of the language that can be read off the code."""
+
+import ast
+import builtins
+import io
+import pathlib
+import tokenize
+import unittest
+
+FOLDER = pathlib.Path(__file__).resolve().parent.parent / "slowshelves"
+LIBRARY = {
+    "heapq": {"heappush", "heappop", "heapify", "heapreplace", "heappushpop"},
+    "math": {"gcd", "lcm", "isqrt", "comb", "perm", "factorial"},
+    "itertools": {"product", "combinations", "permutations"},
+}
+BUILTINS = set("""len range enumerate zip min max sum abs sorted reversed int str bool list tuple dict set isinstance ord
+repr any all divmod Exception KeyError ZeroDivisionError""".split())
+METHODS = set("""append clear copy count endswith extend find get index insert isalnum isalpha isdigit islower isspace
+isupper items join keys ljust lower lstrip partition pop remove replace reverse rfind rjust rpartition rsplit rstrip
+setdefault split splitlines startswith strip update upper values zfill bit_length""".split())
+BARRED_NAMES = set("""register mro elements open input law version_info with_traceback add_note attrgetter breakpoint
+builtins compile copyright credits delattr dir eval exec exit gc getattr globals hasattr help id importlib license locals
+methodcaller os quit setattr super type vars sys iter next map""".split())
+BARRED_WORDS = set("""type typing typing_extensions enum Enum IntEnum StrEnum Flag IntFlag Generic Protocol ABC ABCMeta
+namedtuple NamedTuple TypedDict TYPE_CHECKING abstractmethod dataclass overload contextmanager _wall""".split())
+NODES = (
+    ast.Module, ast.Expr, ast.ImportFrom, ast.alias, ast.FunctionDef, ast.ClassDef, ast.arguments, ast.arg, ast.Return,
+    ast.Assign, ast.AugAssign, ast.Delete, ast.For, ast.While, ast.If, ast.Raise, ast.Pass, ast.Continue, ast.Break,
+    ast.Try, ast.ExceptHandler, ast.BoolOp, ast.BinOp, ast.UnaryOp, ast.IfExp, ast.Dict, ast.Set, ast.ListComp, ast.DictComp,
+    ast.Compare, ast.Call, ast.keyword, ast.Constant, ast.Attribute, ast.Subscript, ast.Starred, ast.Name, ast.List,
+    ast.Tuple, ast.Slice, ast.comprehension, ast.expr_context, ast.boolop, ast.operator, ast.unaryop, ast.cmpop,
+    ast.JoinedStr, ast.FormattedValue, ast.Lambda,
+)
+EAGER = {"list", "tuple", "dict", "sorted", "sum", "any", "all", "enumerate", "zip", "min", "max"}
+
+
+def parsed():
+    for path in sorted(FOLDER.glob("*.py")):
+        text = path.read_text(encoding="utf-8")
+        tree = ast.parse(text)
+        for node in ast.walk(tree):
+            for child in ast.iter_child_nodes(node):
+                child.parent = node
+        yield path.stem, text, tree
+
+
+FILES = list(parsed())
+
+
+def nodes_of(kind):
+    for name, _, tree in FILES:
+        for node in ast.walk(tree):
+            if isinstance(node, kind):
+                yield f"{name}.py:{getattr(node, 'lineno', 0)}", node
+
+
+def called(node):
+    return node.func.id if isinstance(node, ast.Call) and isinstance(node.func, ast.Name) else None
+
+
+def bound_names(tree):
+    for node in ast.walk(tree):
+        if isinstance(node, ast.Name) and not isinstance(node.ctx, ast.Load):
+            yield node.id
+        elif isinstance(node, ast.arg):
+            yield node.arg
+        elif isinstance(node, ast.FunctionDef) and not node.name.endswith("__"):
+            yield node.name
+
+
+class TestLanguage(unittest.TestCase):
+    def test_files(self):
+        found = [path.name for path in FOLDER.iterdir() if path.name != "__pycache__"]
+        self.assertIn("__init__.py", found)
+        for name in found:
+            self.assertRegex(name, r"^[a-z0-9_]+\.py$")
+        self.assertLessEqual(len(found), 100)
+
+    def test_lines(self):
+        for name, text, _ in FILES:
+            self.assertTrue(all(sign == "\n" or " " <= sign <= "~" for sign in text), name)
+            self.assertLessEqual(len(text.splitlines()), 399, name)
+            self.assertLessEqual(max(len(line) for line in text.splitlines()), 120, name)
+
+    def test_functions_are_short(self):
+        for place, node in nodes_of(ast.FunctionDef):
+            self.assertLessEqual(node.end_lineno - node.lineno + 1, 40, place)
+            self.assertEqual([], node.decorator_list, place)
+            self.assertIsInstance(node.parent, (ast.Module, ast.ClassDef), place)
+
+    def test_only_these_parts_of_the_language(self):
+        for place, node in nodes_of(ast.AST):
+            self.assertIsInstance(node, NODES, place)
+            self.assertNotIsInstance(node, (ast.Div, ast.MatMult, ast.Pow), place)
+
+    def test_imports(self):
+        defined = {name: {node.name for node in tree.body if isinstance(node, (ast.FunctionDef, ast.ClassDef))}
+                   | {node.targets[0].id for node in tree.body if isinstance(node, ast.Assign)} for name, _, tree in FILES}
+        imports = {}
+        for name, _, tree in FILES:
+            imports[name] = set()
+            for node in ast.walk(tree):
+                if isinstance(node, ast.ImportFrom):
+                    self.assertEqual((0, tree), (node.level, node.parent))
+                    names = {alias.name for alias in node.names}
+                    self.assertEqual({None}, {alias.asname for alias in node.names})
+                    if node.module in LIBRARY:
+                        self.assertLessEqual(names, LIBRARY[node.module])
+                        continue
+                    self.assertRegex(node.module, r"^slowshelves\.[a-z_]+$")
+                    module = node.module.partition(".")[2]
+                    self.assertLessEqual(names, defined[module], name)
+                    imports[name].add(module)
+                    used = {node.id for node in ast.walk(tree) if isinstance(node, ast.Name)}
+                    self.assertLessEqual(names, used, name)
+        while imports:
+            free = [name for name, wanted in imports.items() if not wanted & set(imports)]
+            self.assertTrue(free, imports)
+            imports = {name: wanted for name, wanted in imports.items() if name not in free}
+
+    def test_module_level(self):
+        for name, _, tree in FILES:
+            for node in tree.body:
+                self.assertIsInstance(node, (ast.Expr, ast.ImportFrom, ast.FunctionDef, ast.ClassDef, ast.Assign), name)
+                if isinstance(node, ast.Expr):
+                    self.assertIsInstance(node.value, ast.Constant)
+            names = [node.name for node in tree.body if isinstance(node, (ast.FunctionDef, ast.ClassDef))]
+            self.assertEqual(len(set(names)), len(names))
+
+    def test_names(self):
+        for name, _, tree in FILES:
+            top = {alias.name for node in tree.body if isinstance(node, ast.ImportFrom) for alias in node.names}
+            top |= {node.name for node in tree.body if isinstance(node, ast.ClassDef)}
+            functions = {node.name for node in tree.body if isinstance(node, ast.FunctionDef)}
+            for found in bound_names(tree):
+                self.assertRegex(found, r"^_?([a-zA-Z][a-zA-Z0-9_]*)?$", name)
+                self.assertFalse(hasattr(builtins, found) or found in BARRED_NAMES or found in top, (name, found))
+            for place, node in nodes_of((ast.Name, ast.arg)):
+                if place.startswith(name + ".py") and not isinstance(getattr(node, "ctx", None), ast.Load):
+                    self.assertNotIn(getattr(node, "id", getattr(node, "arg", "")), functions, place)
+
+    def test_builtins_and_methods(self):
+        for place, node in nodes_of(ast.Name):
+            if isinstance(node.ctx, ast.Load) and hasattr(builtins, node.id):
+                self.assertIn(node.id, BUILTINS, place)
+        for place, node in nodes_of(ast.Attribute):
+            if isinstance(node.parent, ast.Call) and node.parent.func is node:
+                self.assertIn(node.attr, METHODS - {"sort"}, place)
+            else:
+                self.assertIn(node.attr, {"at", "word"}, place)
+
+    def test_words(self):
+        for name, text, tree in FILES:
+            docs = {ast.get_docstring(node, clean=False) for node in ast.walk(tree)
+                    if isinstance(node, (ast.Module, ast.ClassDef, ast.FunctionDef))}
+            for token in tokenize.generate_tokens(io.StringIO(text).readline):
+                if token.type == tokenize.NAME:
+                    self.assertNotIn(token.string, BARRED_WORDS, name)
+                if token.type == tokenize.STRING and ast.literal_eval(token.string) not in docs:
+                    self.assertFalse(BARRED_WORDS & set(token.string.strip("\"'").split()), name)
+            for node in ast.walk(tree):
+                if isinstance(node, ast.Constant) and isinstance(node.value, str):
+                    self.assertNotIn(chr(37), node.value, name)
+                    self.assertNotRegex(node.value, r"^__.*__$", name)
+                self.assertNotIsInstance(getattr(node, "value", None), float)
+
+    def test_is(self):
+        for place, node in nodes_of(ast.Compare):
+            for sign, right in zip(node.ops, node.comparators):
+                if isinstance(sign, (ast.Is, ast.IsNot)):
+                    self.assertIsInstance(right, ast.Constant, place)
+                    self.assertIn(repr(right.value), ("None", "True", "False"), place)
+
+    def test_sets_stand_in_sorted_or_len(self):
+        for place, node in nodes_of(ast.Call):
+            if called(node) == "set":
+                self.assertIn(called(node.parent), ("sorted", "len"), place)
+        self.assertEqual([], list(nodes_of(ast.Set)))
+
+    def test_ranges_are_iterated_at_once(self):
+        for place, node in nodes_of(ast.Call):
+            if called(node) in ("range", "zip", "enumerate", "reversed", "combinations", "product", "permutations") or (
+                isinstance(node.func, ast.Attribute) and node.func.attr in ("items", "keys", "values")
+            ):
+                parent = node.parent
+                at_once = isinstance(parent, (ast.For, ast.comprehension)) and parent.iter is node
+                in_reversed = called(node) == "range" and called(parent) == "reversed"
+                in_product = called(node) == "range" and called(parent) in LIBRARY["itertools"]
+                self.assertTrue(at_once or in_reversed or in_product or called(parent) in EAGER, place)
+
+    def test_what_is_iterated_is_not_changed(self):
+        for place, node in nodes_of((ast.For, ast.ListComp, ast.DictComp)):
+            heads = [node.iter] if isinstance(node, ast.For) else [part.iter for part in node.generators]
+            names = {part.id for head in heads for part in ast.walk(head) if isinstance(part, ast.Name)}
+            changed = set()
+            body = node.body if isinstance(node, ast.For) else [node]
+            for part in [inner for row in body for inner in ast.walk(row)]:
+                if isinstance(part, ast.Call) and isinstance(part.func, ast.Attribute):
+                    if part.func.attr in ("append", "extend", "update", "setdefault", "pop", "clear", "insert", "remove"):
+                        changed |= {name.id for name in ast.walk(part.func.value) if isinstance(name, ast.Name)}
+                if isinstance(part, ast.Subscript) and not isinstance(part.ctx, ast.Load):
+                    changed |= {name.id for name in ast.walk(part.value) if isinstance(name, ast.Name)}
+            self.assertEqual(set(), names & changed, place)
+
+    def test_loop_variables_named_as_nothing_are_not_read(self):
+        for place, node in nodes_of(ast.Name):
+            self.assertFalse(node.id == "_" and isinstance(node.ctx, ast.Load), place)
+
+    def test_keywords_of_builtins(self):
+        allowed = {"sorted": {"key", "reverse"}, "min": {"key", "default"}, "max": {"key", "default"},
+                   "sum": {"start"}, "enumerate": {"start"}}
+        for place, node in nodes_of(ast.Call):
+            if called(node) in BUILTINS:
+                self.assertLessEqual({word.arg for word in node.keywords}, allowed.get(called(node), set()), place)
+
+
+if __name__ == "__main__":
+    unittest.main()

@@ -1,0 +1,196 @@
+"""For each kind of argument all sorts of wrong values, each with its error."""
+
+from slowshelves.errors import (
+    InvalidBlock,
+    InvalidEdit,
+    InvalidFold,
+    InvalidIndex,
+    InvalidLayout,
+    InvalidLengths,
+    InvalidLists,
+    InvalidRoom,
+    InvalidRooms,
+    InvalidShelf,
+    InvalidSize,
+    InvalidTrack,
+    InvalidWalk,
+    InvalidWeb,
+)
+from tests.support import NO_NUMBER, NO_SEQUENCE
+
+HUGE = 10 ** 30
+NO_PAIR = NO_SEQUENCE + ((), (1,), [2], (1, (), ()), [1, [], []], ((), ()), ([],))
+SHELF = (4, (("list", (0, 1, 2)), ("ring", (1, 2, 3)), ("list", (3,))))
+WEB = (4, ((0, 1), (1, 2), (2, 3), (1, 3)))
+GOOD_LINKS = [(0, 1), [3, 1], (1, 0)]
+GOOD_CHAINS = [("list", (0,)), ["ring", [3, 1, 2]]]
+LAYOUT = (0, 0, 1, 2)
+LISTS = (((5, 3), (7, 4)), (), ((2, 1),))
+
+
+def wrong_places(good, wrong, error):
+    """Rows with one wrong thing behind 0, 1, .. good ones, and another one behind it."""
+    rows = []
+    for at in range(len(good) + 1):
+        for item in wrong:
+            rows.append((good[:at] + [item], error(at)))
+            rows.append((tuple(good[:at] + [item, item] + good[at:]), error(at)))
+    return rows
+
+
+def size(word, *wrong):
+    return [(item, InvalidSize(word)) for item in NO_NUMBER + wrong]
+
+
+def shelves():
+    chains = NO_PAIR + (("list", ()), ("list", []), ("ring", (0, 1)), ("ring", ()), ("list", (4,)), ("list", (-1,)))
+    chains += tuple(("list", (0, item)) for item in NO_NUMBER + (4, HUGE))
+    chains += tuple((kind, (0, 1, 2)) for kind in (None, 0, True, "", "List", "lis", "rings", ("list",), ["ring"]))
+    chains += tuple(("ring", row) for row in NO_SEQUENCE + ((0, 1, 0), (0, 1, 1), (1, 2, 3, 1)))
+    chains += (("list", (2, 2)), ("list", (0, 1, 0)), ("list", {0: 1}.keys()))
+    whole = [(item, InvalidShelf(-1)) for item in NO_PAIR]
+    whole += [((item, [("bad",)]), InvalidShelf(-1)) for item in NO_NUMBER + (0, 201, HUGE)]
+    whole += [((4, item), InvalidShelf(-1)) for item in NO_SEQUENCE]
+    return whole + [((4, row), error) for row, error in wrong_places(GOOD_CHAINS, chains, InvalidShelf)]
+
+
+def webs():
+    links = NO_PAIR + ((0, 1, 2), (0,), (0, 0), (3, 3), (0, 4), (4, 0), (-1, 0), (0, HUGE))
+    links += tuple((0, item) for item in NO_NUMBER) + tuple([item, 1] for item in NO_NUMBER)
+    whole = [(item, InvalidWeb(-1)) for item in NO_PAIR]
+    whole += [((item, [("bad",)]), InvalidWeb(-1)) for item in NO_NUMBER + (0, 41, HUGE)]
+    whole += [((4, item), InvalidWeb(-1)) for item in NO_SEQUENCE]
+    return whole + [((4, row), error) for row, error in wrong_places(GOOD_LINKS, links, InvalidWeb)]
+
+
+def rows_of_four(error, limit):
+    """Rows of four numbers below the limit with one wrong one, or of another length."""
+    whole = [(item, error(-1)) for item in NO_SEQUENCE]
+    whole += [(row, error(-1)) for row in ((), [], (0,), (0, 0, 0), (0, 1, 2, 3, 0), ["bad"], ("bad",) * 5)]
+    rows = []
+    for at in range(4):
+        for item in NO_NUMBER + (limit, HUGE):
+            rows.append(([0] * at + [item] + [0] * (3 - at), error(at)))
+            rows.append(((0,) * at + (item,) * (4 - at), error(at)))
+    return whole + rows
+
+
+def layouts():
+    """Wrong ones where a layout is passed alone."""
+    whole = [(item, InvalidLayout(-1)) for item in NO_SEQUENCE + ((), [], (0,) * 201, ("bad",) * 201)]
+    places = wrong_places([7, 7, 199], NO_NUMBER + (200, HUGE), InvalidLayout)
+    return whole + places
+
+
+def layouts_of_four():
+    return rows_of_four(InvalidLayout, 200)
+
+
+def roomy_layouts():
+    """Wrong ones of four cells with two cells in a block at most."""
+    more = [((5, 5, 5, 5), InvalidLayout(2)), ([5, 6, 5, 5], InvalidLayout(3)), ([1, 0, 1, 1], InvalidLayout(3))]
+    more += [((5, 5, 5, "bad"), InvalidLayout(2)), ((5, True, 5, 5), InvalidLayout(1))]
+    return [row for row in layouts_of_four() if not isinstance(row[0], (list, tuple)) or row[1].at < 2] + more
+
+
+def folds():
+    lacking = [(row, InvalidFold(-1)) for row in ((1, 1, 1, 1), [0, 2, 0, 2], (3, 3, 3, 3), (0, 1, 3, 0))]
+    return rows_of_four(InvalidFold, 4) + lacking
+
+
+def of_number(error, *wrong):
+    return [(item, error(-1)) for item in NO_NUMBER + wrong]
+
+
+def walks():
+    """Wrong walks of WEB."""
+    whole = [(item, InvalidWalk(-1)) for item in NO_SEQUENCE + ((), [], (0, 1) * 200 + (0,), ["bad"] * 401)]
+    places = wrong_places([0, 1, 2], NO_NUMBER + (4, 40, HUGE), InvalidWalk)
+    return whole + places + [
+        ((0, 0), InvalidWalk(1)), ([0, 1, 1], InvalidWalk(2)), ((0, 2), InvalidWalk(1)), ((0, 1, 2, 0, 1), InvalidWalk(3)),
+    ]
+
+
+def touches():
+    whole = [(item, InvalidWalk(-1)) for item in NO_SEQUENCE + ((), [], (0, 1) * 200 + (0,), ["bad"] * 401)]
+    places = wrong_places([0, 39, 2], NO_NUMBER + (40, HUGE), InvalidWalk)
+    return whole + places + [((0, 0), InvalidWalk(1)), ([0, 1, 1, 1], InvalidWalk(2)), ((5, 3, 3), InvalidWalk(2))]
+
+
+def cell_rows(*more):
+    """Wrong rows of the four cells."""
+    whole = [(item, InvalidTrack(-1)) for item in NO_SEQUENCE + ((), [], (0, 1) * 500 + (0,), ["bad"] * 1001)]
+    return whole + wrong_places([0, 1, 2], NO_NUMBER + (4, 200, HUGE), InvalidTrack) + list(more)
+
+
+def lengths():
+    whole = [(item, InvalidLengths(-1)) for item in NO_SEQUENCE + ((), [])]
+    whole += [((8,) * 25 + (1,), InvalidLengths(25)), ([8] * 24 + [7, 2, "bad"], InvalidLengths(25))]
+    whole += [([1] * 201, InvalidLengths(200)), ((8,) * 26, InvalidLengths(25))]
+    return whole + wrong_places([1, 8, 3], NO_NUMBER + (0, 9, HUGE), InvalidLengths)
+
+
+def arm_lengths():
+    wrong = [item for item in NO_SEQUENCE] + [(200,), (100, 100), [1] * 200, (HUGE,)]
+    wrong += [row for row, _ in wrong_places([1, 8, 3], NO_NUMBER + (0,), InvalidLengths)]
+    return [(item, InvalidSize("lengths")) for item in wrong]
+
+
+def lists():
+    runs = NO_PAIR + ((1, 2, 3), (4, 0), (4, 61), (4, HUGE), (5, 1), [7, 2])
+    runs += tuple((item, 1) for item in NO_NUMBER) + tuple([4, item] for item in NO_NUMBER)
+    wrong = NO_SEQUENCE + tuple([run] for run in runs) + tuple(((8, 1), run, (9, 1)) for run in runs)
+    wrong += (((8, 1), (8, 1)), [[8, 1], [9, 1], [8, 2]])
+    whole = [(item, InvalidLists(-1)) for item in NO_SEQUENCE]
+    places = []
+    for item in wrong:
+        places += [(([[5, 3], [7, 4]], item), InvalidLists(1)), ([((5, 3), (7, 4)), (), item, item], InvalidLists(2))]
+    return whole + places
+
+
+def edits():
+    """Wrong edits of LISTS."""
+    wrong = list(NO_SEQUENCE) + [(), ("put",), ("put", 0), ("put", 0, 0, 0), ("Put", 0, 0), ("", 0, 0), ("lay", 0, 1)]
+    wrong += [(word, 0, 1) for word in (None, 0, True, ("put",), ["put"], InvalidEdit())]
+    for word in ("put", "take", "cut", "join"):
+        wrong += [(word, item, 1) for item in NO_NUMBER + (3, HUGE)] + [[word, 0, item] for item in NO_NUMBER + (HUGE,)]
+    wrong += [("put", 0, 8), ("put", 1, 1), ("put", 2, 2), ("take", 0, 7), ("take", 1, 0), ("take", 2, 1)]
+    wrong += [("cut", 0, 0), ("cut", 0, 7), ("cut", 1, 0), ("cut", 2, 0), ("cut", 2, 1), ("join", 0, 0), ("join", 2, 2)]
+    wrong += [("join", 0, 3)]
+    return [(item, InvalidEdit()) for item in wrong]
+
+
+KINDS = {
+    "shelf": shelves(),
+    "web": webs(),
+    "layout": layouts(),
+    "layout beside": layouts_of_four(),
+    "layout in 2": roomy_layouts(),
+    "layout number": layouts_of_four(),
+    "fold": folds(),
+    "block": of_number(InvalidBlock, 4, 40, HUGE),
+    "rooms": of_number(InvalidRooms, 0, 6, HUGE),
+    "room": of_number(InvalidRoom, 0, 9, HUGE),
+    "one": [(item, InvalidBlock(0)) for item in NO_NUMBER + (3, HUGE)],
+    "other": [(item, InvalidBlock(1)) for item in NO_NUMBER + (3, HUGE)],
+    "cells to 200": size("cells", 0, 201, HUGE),
+    "cells from 3": size("cells", 0, 1, 2, 201, HUGE),
+    "cells to 30": size("cells", 0, 31, HUGE),
+    "cells to 40": size("cells", 0, 41, HUGE),
+    "touches": touches(),
+    "touches to 400": size("touches", 0, 401, HUGE),
+    "index": of_number(InvalidIndex, HUGE ** 2),
+    "walk": walks(),
+    "track": cell_rows(((0, 3), InvalidTrack(1)), ([1, 0, 2, 0], InvalidTrack(2)), ((3, 3, 0), InvalidTrack(2))),
+    "way": cell_rows(((0, 3), InvalidTrack(1)), ([1, 2, 2], InvalidTrack(2)), ((0, 0), InvalidTrack(1))),
+    "row of cells": cell_rows(),
+    "least": size("least", 0, 3, 4, HUGE),
+    "lists": lists(),
+    "edit": edits(),
+    "rows": size("rows", 0),
+    "columns": size("columns", 0),
+    "arms": arm_lengths(),
+    "lengths": lengths(),
+    "ahead": size("ahead", 41, HUGE),
+    "any": [],
+}
