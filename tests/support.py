@@ -164,6 +164,19 @@ def parts_of(web):
     return parts
 
 
+def calm_by_words(web, rooms):
+    """Calm as the overview says it: each part of more blocks than rooms is a line, or a tree."""
+    if rooms == 1:
+        return True
+    for part in parts_of(web):
+        links = [link for link in web[1] if link[0] in part]
+        degrees = [sum(block in link for link in links) for block in part]
+        is_tree = len(links) == len(part) - 1
+        if len(part) > rooms and not (is_tree and (rooms == 2 or max(degrees) <= 2)):
+            return False
+    return True
+
+
 def walks_of(web, touches):
     """All walks of so many touches, ascending."""
     rows = rows_of(web)

@@ -3,10 +3,10 @@
 import importlib
 import unittest
 
-from slowshelves import blocks, calm, shelves
+from slowshelves import blocks, calm, crossings, edits, forks, lists, shelves, tracks
 from slowshelves.errors import ShelfError
 from tests.support import ANY, Case, parameter_names
-from tests.wrongs import KINDS, LAYOUT, SHELF, WEB
+from tests.wrongs import KINDS, LAYOUT, LISTS, SHELF, WEB
 
 S = ("shelf", SHELF, "shelf")
 W = ("web", WEB, "web")
@@ -15,6 +15,17 @@ LB = ("layout", LAYOUT, "layout beside")
 ROOMS = ("rooms", 2, "rooms")
 ROOM = ("room", 2, "room")
 ANY_VALUE = ("value", None, "any")
+# With each cell by itself SHELF has the web WEB.
+ALONE = ("layout", (0, 1, 2, 3), "layout beside")
+WALK = ("walk", (0, 1, 2, 1), "walk")
+FOLD = ("fold", (0, 1, 0, 2), "fold")
+ROWS = ("rows", 2, "rows")
+COLUMNS = ("columns", 3, "columns")
+ARMS = ("lengths", (1, 2), "arms")
+LENGTHS = ("lengths", (1, 8, 3), "lengths")
+FILL = [ROOM, ("least", 1, "least"), ("lists", LISTS, "lists"), ("edit", ("put", 0, 1), "edit")]
+RING_CELLS = ("cells", 5, "cells from 3")
+AHEAD = ("ahead", 1, "ahead")
 
 # For each function its arguments: name, a good one, the kind of wrong ones.
 FUNCTIONS = {
@@ -52,6 +63,53 @@ FUNCTIONS = {
         "is_calm": [W, ROOMS],
         "calm_rooms": [W],
         "safe_begins": [W, ROOMS],
+    },
+    tracks: {
+        "need_touches": [("value", (0, 39, 0), "touches")],
+        "need_walk": [W, ("value", (0, 1, 2, 1), "walk")],
+        "need_track": [S, LB, ("value", (0, 0, 1, 2), "track")],
+        "need_way": [S, ("value", (0, 1, 2, 1), "way")],
+        "track_walk": [L, ("track", (0, 3, 0, 2), "row of cells")],
+        "walk_track": [S, ALONE, WALK],
+        "folded_walk": [W, FOLD, WALK],
+        "piece_layout": [S, LB],
+        "piece_lots": [S, ALONE, WALK],
+        "walk_way": [S, ALONE, WALK],
+        "follow_paper": [S, LB],
+        "follow_holds": [S, LB, ANY_VALUE],
+        "walk_count": [W, ("touches", 3, "touches to 400")],
+        "nth_walk": [W, ("touches", 3, "touches to 400"), ("number", 2, "index")],
+        "walk_number": [W, WALK],
+    },
+    edits: {
+        "edit_rows": FILL[2:],
+        "lists_web": FILL[2:3],
+        "fill_paper": FILL,
+        "fill_holds": FILL + [ANY_VALUE],
+    },
+    crossings: {
+        "cross_holds": [S, ROOM, ANY_VALUE],
+        "grid_shelf": [ROWS, COLUMNS],
+        "grid_paper": [ROWS, COLUMNS, ROOM, ROOMS],
+        "grid_room": [ROWS, COLUMNS, ROOMS],
+        "arms_shelf": [ARMS],
+        "arms_paper": [ARMS, ROOM, ROOMS],
+        "arms_room": [ARMS, ROOMS],
+    },
+    lists: {
+        "length_layout": [LENGTHS],
+        "list_share": [LENGTHS, ROOMS],
+        "best_stretch": [LENGTHS, ROOMS],
+        "swing_way": [LENGTHS, ROOMS],
+        "best_runs": [("cells", 5, "cells to 40"), ROOM, ROOMS],
+        "tree_share": [("web", (3, ((0, 1), (1, 2))), "web")],
+        "folded_layout": [RING_CELLS, ROOM],
+        "folded_share": [RING_CELLS, ROOM, ROOMS],
+    },
+    forks: {
+        "fork_ways": [W, AHEAD],
+        "fork_holds": [W, AHEAD, ANY_VALUE],
+        "longest_common": [W],
     },
 }
 

@@ -7,7 +7,8 @@ from itertools import combinations, permutations
 from slowshelves.calm import calm_holds, calm_paper, calm_rooms, is_calm, safe_begins
 from slowshelves.errors import InvalidSize
 from tests.support import (
-    ANY, Case, all_webs, bools_within, last_used_moves, least_moves, lists_within, parts_of, rows_of, unlike_webs, walks_of,
+    ANY, Case, all_webs, bools_within, calm_by_words, last_used_moves, least_moves, lists_within, parts_of, rows_of,
+    unlike_webs, walks_of,
 )
 
 STAR = (4, ((0, 1), (0, 2), (0, 3)))
@@ -23,19 +24,6 @@ def ring(many):
 
 def whole(many):
     return many, tuple(combinations(range(many), 2))
-
-
-def calm_by_words(web, rooms):
-    """Calm as the overview says it: each part of more blocks than rooms is a line, or a tree."""
-    if rooms == 1:
-        return True
-    for part in parts_of(web):
-        links = [link for link in web[1] if link[0] in part]
-        degrees = [sum(block in link for link in links) for block in part]
-        is_tree = len(links) == len(part) - 1
-        if len(part) > rooms and not (is_tree and (rooms == 2 or max(degrees) <= 2)):
-            return False
-    return True
 
 
 def can_stay(web, rooms, memory, place, steps):

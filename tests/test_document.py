@@ -1,0 +1,24 @@
+"""The rows of the document that are answered already."""
+
+import doctest
+import unittest
+
+ROWS = """
+>>> from slowshelves.calm import calm_paper, calm_rooms
+>>> from slowshelves.crossings import grid_room
+>>> star = (4, ((0, 1), (0, 2), (0, 3)))
+>>> calm_rooms(star), calm_paper(star, 3)[0], grid_room(3, 50, 3)
+((1, 2, 4, 5), 'fork', 3)
+"""
+
+
+class TestDocument(unittest.TestCase):
+    def test_rows(self):
+        rows = doctest.DocTestParser().get_doctest(ROWS, {}, "rows", None, 0)
+        runner = doctest.DocTestRunner()
+        runner.run(rows)
+        self.assertEqual((0, 4), (runner.failures, runner.tries))
+
+
+if __name__ == "__main__":
+    unittest.main()
