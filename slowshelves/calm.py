@@ -3,13 +3,7 @@
 from itertools import combinations
 
 from slowshelves.blocks import MOST_ROOMS, need_rooms, need_web, neighbours
-from slowshelves.common import (
-    hanging_parts,
-    is_paper_row,
-    linked_rows,
-    reached_row,
-    shortest_way,
-)
+from slowshelves.common import hanging_parts, is_paper_row, linked_rows, reached_row, shortest_way
 from slowshelves.errors import InvalidSize
 
 MOST_SAFE_BLOCKS = 5

@@ -69,19 +69,24 @@ def linked_rows(many, links):
     return tuple([tuple(sorted(row)) for row in rows])
 
 
-def reached_row(rows, first):
-    """All numbers that hang together with the first, nearer ones first."""
+def _met_from(rows, first):
+    """For each number that hangs together with the first, nearer ones first, the one ahead of it."""
+    ahead = {first: first}
     order = [first]
-    met = {first: True}
     at = 0
     while at < len(order):
         here = order[at]
         at += 1
         for number in rows[here]:
-            if number not in met:
-                met[number] = True
+            if number not in ahead:
+                ahead[number] = here
                 order.append(number)
-    return order
+    return ahead
+
+
+def reached_row(rows, first):
+    """All numbers that hang together with the first, nearer ones first."""
+    return list(_met_from(rows, first))
 
 
 def hanging_parts(rows):
@@ -107,16 +112,7 @@ def rows_within(rows, numbers):
 
 def shortest_way(rows, first, last):
     """Some shortest row from first to last, each next one linked, or None."""
-    ahead = {first: first}
-    order = [first]
-    at = 0
-    while at < len(order) and last not in ahead:
-        here = order[at]
-        at += 1
-        for number in rows[here]:
-            if number not in ahead:
-                ahead[number] = here
-                order.append(number)
+    ahead = _met_from(rows, first)
     if last not in ahead:
         return None
     way = [last]

@@ -3,10 +3,9 @@
 from slowshelves.blocks import MOST_BLOCKS, need_room
 from slowshelves.common import is_below, is_integer, is_pair, is_sequence, is_within
 from slowshelves.errors import InvalidEdit, InvalidLists, InvalidSize
-from slowshelves.heights import cut_pairs, heights_hold, least_heights, shown_stays, staying_runs
+from slowshelves.heights import NO_BLOCK, cut_pairs, heights_hold, least_heights, shown_stays, staying_runs
 
 MOST_RUN_CELLS = 60
-NEW = -1
 
 
 def need_lists(value):
@@ -66,7 +65,7 @@ def _edited_rows(rows, edit):
         joined = rows[:at] + [row + rows[where]] + rows[at + 1:]
         return joined[:where] + joined[where + 1:]
     if word == "put":
-        changed = [row[:where] + [NEW] + row[where:]]
+        changed = [row[:where] + [NO_BLOCK] + row[where:]]
     elif word == "take":
         changed = [row[:where] + row[where + 1:]]
     else:
@@ -107,7 +106,7 @@ def _need_edited(room, least, lists, edit):
 
 
 def _kept_cells(rows):
-    return sum([1 for row in rows for block in row if block != NEW])
+    return sum([1 for row in rows for block in row if block != NO_BLOCK])
 
 
 def fill_paper(room, least, lists, edit):
@@ -136,7 +135,7 @@ def _with_new_blocks(rows, filled):
         for block, cells in runs:
             while fresh in used:
                 fresh += 1
-            told.append((fresh if block == NEW else block, cells))
+            told.append((fresh if block == NO_BLOCK else block, cells))
             used[told[-1][0]] = True
         out.append(tuple(told))
     return tuple(out)
@@ -184,5 +183,5 @@ def _moved_cells(rows, filled):
         1
         for row, new_row in zip(rows, new_rows)
         for block, new_block in zip(row, new_row)
-        if block not in (NEW, new_block)
+        if block not in (NO_BLOCK, new_block)
     ])

@@ -6,9 +6,9 @@ from math import gcd
 from slowshelves.blocks import need_room, need_rooms, need_web
 from slowshelves.common import is_sequence, is_within, linked_rows, need_size, numbered, reached_row, shortest_way
 from slowshelves.errors import InvalidLengths, InvalidSize, Refused
+from slowshelves.shelves import MOST_CELLS
 
 MOST_LENGTH = 8
-MOST_CELLS = 200
 MOST_BEST_CELLS = 40
 
 

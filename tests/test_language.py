@@ -13,6 +13,8 @@ LIBRARY = {
     "math": {"gcd", "lcm", "isqrt", "comb", "perm", "factorial"},
     "itertools": {"product", "combinations", "permutations"},
 }
+# Doctest runs leave a "_" among the builtins.
+NAMES_OF_BUILTINS = set(dir(builtins)) - {"_"}
 BUILTINS = set("""len range enumerate zip min max sum abs sorted reversed int str bool list tuple dict set isinstance ord
 repr any all divmod Exception KeyError ZeroDivisionError""".split())
 METHODS = set("""append clear copy count endswith extend find get index insert isalnum isalpha isdigit islower isspace
@@ -134,14 +136,14 @@ class TestLanguage(unittest.TestCase):
             functions = {node.name for node in tree.body if isinstance(node, ast.FunctionDef)}
             for found in bound_names(tree):
                 self.assertRegex(found, r"^_?([a-zA-Z][a-zA-Z0-9_]*)?$", name)
-                self.assertFalse(hasattr(builtins, found) or found in BARRED_NAMES or found in top, (name, found))
+                self.assertFalse(found in NAMES_OF_BUILTINS or found in BARRED_NAMES or found in top, (name, found))
             for place, node in nodes_of((ast.Name, ast.arg)):
                 if place.startswith(name + ".py") and not isinstance(getattr(node, "ctx", None), ast.Load):
                     self.assertNotIn(getattr(node, "id", getattr(node, "arg", "")), functions, place)
 
     def test_builtins_and_methods(self):
         for place, node in nodes_of(ast.Name):
-            if isinstance(node.ctx, ast.Load) and hasattr(builtins, node.id):
+            if isinstance(node.ctx, ast.Load) and node.id in NAMES_OF_BUILTINS:
                 self.assertIn(node.id, BUILTINS, place)
         for place, node in nodes_of(ast.Attribute):
             if isinstance(node.parent, ast.Call) and node.parent.func is node:
