@@ -43,7 +43,7 @@ def _greatest_stretch(lengths, rooms):
     for first in range(len(lengths)):
         for last in range(first + rooms, len(lengths)):
             share = _stretch_share(lengths, (first, last), rooms)
-            if best is None or _is_less(best_share, share):
+            if _is_less(best_share, share):
                 best = (first, last)
                 best_share = share
     return best

@@ -288,6 +288,8 @@ class TestJudge(Case):
                 told = fill_holds(*case, (moved, filled, other))
                 if place == len(heights[at][tuple_at]) - 1:
                     self.assertIs(False, told)
+                elif place == 0 and side == 1:
+                    self.assertIs(True, told)
                 if place == 0 and side == 0 and case[3][0] != "cut":
                     self.assertIs(tuple_at == 1, told)
                 held += told

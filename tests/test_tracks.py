@@ -232,6 +232,11 @@ class TestFollowed(Case):
         self.holds(follow_holds, shelf, layout, follow_paper(shelf, layout))
         self.fails_to_hold(follow_holds, APART[0], APART[1], ("all", ((0, 2), (1,), (3,))))
 
+    def test_a_lot_that_no_lot_lies_behind(self):
+        shelf = (5, (("list", (0, 1)), ("list", (0, 4)), ("list", (2, 3))))
+        self.holds(follow_holds, shelf, (0, 1, 0, 2, 2), ("all", ((0,), (1,), (4,))))
+        self.fails_to_hold(follow_holds, shelf, (0, 1, 0, 2, 2), ("all", ((0,), (1,), (4,), (3,))))
+
     def test_papers_with_lists_or_bools_within_do_not_hold(self):
         for shelf, layout in (APART, (list_shelf(6), (0, 0, 1, 1, 2, 2)), ((2, ()), (0, 0))):
             paper = follow_paper(shelf, layout)
