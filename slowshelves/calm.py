@@ -13,7 +13,11 @@ def calm_paper(web, rooms):
     """Some paper that shows whether the web is calm for so many rooms."""
     web = need_web(web)
     need_rooms(rooms)
-    rows = neighbours(web)
+    return rows_paper(neighbours(web), rooms)
+
+
+def rows_paper(rows, rooms):
+    """Some paper of a web of any size, told by what is linked to each block."""
     calm_rows = []
     for part in _big_parts(rows, rooms):
         kind, row = _part_paper(rows, part, rooms)

@@ -40,6 +40,18 @@ def is_paper_row(value, limit):
     return isinstance(value, tuple) and is_unlike_row(value, limit)
 
 
+def is_lot(value):
+    """Whether any value is a sequence of integers, each one greater than the one ahead."""
+    if not is_sequence(value) or not all([is_integer(item) for item in value]):
+        return False
+    return all([value[at - 1] < value[at] for at in range(1, len(value))])
+
+
+def is_lot_of(value, row):
+    """Whether any value is a lot of numbers of the row."""
+    return is_lot(value) and all([item in row for item in value])
+
+
 def need_size(value, low, high, word):
     """Any value, if it is an integer from low to high."""
     if not is_within(value, low, high):
@@ -87,6 +99,17 @@ def _met_from(rows, first):
 def reached_row(rows, first):
     """All numbers that hang together with the first, nearer ones first."""
     return list(_met_from(rows, first))
+
+
+def far_rows(rows, first):
+    """Lots of the numbers that are 0, 1, .. steps from the first."""
+    met = {first: True}
+    lots = [(first,)]
+    while lots[-1]:
+        following = sorted(set([other for number in lots[-1] for other in rows[number] if other not in met]))
+        met.update({number: True for number in following})
+        lots.append(tuple(following))
+    return tuple(lots[:-1])
 
 
 def hanging_parts(rows):

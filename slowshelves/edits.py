@@ -53,12 +53,12 @@ def _is_place(rows, word, at, where):
     return word == "join" and is_below(where, len(rows)) and where != at
 
 
-def _block_rows(lists):
+def block_rows(lists):
     """For each list the blocks of its cells."""
     return [[block for block, cells in runs for _ in range(cells)] for runs in lists]
 
 
-def _edited_rows(rows, edit):
+def edited_rows(rows, edit):
     word, at, where = edit
     row = rows[at]
     if word == "join":
@@ -75,8 +75,8 @@ def _edited_rows(rows, edit):
 
 def edit_rows(lists, edit):
     """For each list behind the edit the elder blocks of its cells, -1 for a new one."""
-    rows = _block_rows(need_lists(lists))
-    return tuple([tuple(row) for row in _edited_rows(rows, need_edit(rows, edit))])
+    rows = block_rows(need_lists(lists))
+    return tuple([tuple(row) for row in edited_rows(rows, need_edit(rows, edit))])
 
 
 def lists_web(lists):
@@ -98,11 +98,11 @@ def _need_edited(room, least, lists, edit):
     need_room(room)
     if not is_integer(least) or least < 1 or 2 * least > room + 1:
         raise InvalidSize("least")
-    rows = _block_rows(need_lists(lists))
+    rows = block_rows(need_lists(lists))
     word, at, where = need_edit(rows, edit)
     if word == "cut" and rows[at][where - 1] == rows[at][where]:
-        return _edited_rows(rows, (word, at, where)), (at, rows[at][where])
-    return _edited_rows(rows, (word, at, where)), None
+        return edited_rows(rows, (word, at, where)), (at, rows[at][where])
+    return edited_rows(rows, (word, at, where)), None
 
 
 def _kept_cells(rows):
@@ -149,7 +149,7 @@ def fill_holds(room, least, lists, edit, value):
     moved, filled, heights = value
     if not is_integer(moved) or not _is_filled((room, least), rows, filled):
         return False
-    if moved != _moved_cells(rows, filled):
+    if moved != moved_cells(rows, filled):
         return False
     if not isinstance(heights, tuple) or len(heights) != len(rows):
         return False
@@ -177,8 +177,8 @@ def _are_filled_runs(sizes, many, value, seen):
     return all([low <= cells <= room for _, cells in value]) and sum([cells for _, cells in value]) == many
 
 
-def _moved_cells(rows, filled):
-    new_rows = _block_rows(filled)
+def moved_cells(rows, filled):
+    new_rows = block_rows(filled)
     return sum([
         1
         for row, new_row in zip(rows, new_rows)

@@ -43,6 +43,11 @@ def need_walk(web, value):
     return tuple(value)
 
 
+def is_walk_on(rows, value):
+    """Whether any value is a walk, in a tuple, of the web with these rows, as one that may be passed."""
+    return isinstance(value, tuple) and _is_row_of(value, MOST_TOUCHES) and _first_off(rows, value) is None
+
+
 def _first_off(rows, row):
     """The first place of the row with no number of these, or one not linked to the one ahead."""
     for at, number in enumerate(row):

@@ -139,6 +139,18 @@ def unlike_webs(many):
             seen.add(tuple(sorted(tuple(sorted((order[a], order[b]))) for a, b in links)))
 
 
+def line(many):
+    return many, tuple((block, block + 1) for block in range(many - 1))
+
+
+def ring(many):
+    return many, tuple(sorted([(block, block + 1) for block in range(many - 1)] + [(0, many - 1)]))
+
+
+def whole(many):
+    return many, tuple(combinations(range(many), 2))
+
+
 def rows_of(web):
     many, links = web
     rows = [set() for _ in range(many)]

@@ -3,10 +3,12 @@
 import importlib
 import unittest
 
-from slowshelves import blocks, calm, crossings, edits, forks, lists, shelves, tracks
+from slowshelves import (
+    blocks, calm, crossings, crowds, edits, forks, gaps, keeper, levels, lists, rules, shelves, tracks,
+)
 from slowshelves.errors import ShelfError
 from tests.support import ANY, Case, parameter_names
-from tests.wrongs import KINDS, LAYOUT, LISTS, SHELF, WEB
+from tests.wrongs import CROWD, KINDS, LAYOUT, LISTS, RUN, SHELF, TOUCHES, WEB
 
 S = ("shelf", SHELF, "shelf")
 W = ("web", WEB, "web")
@@ -26,6 +28,15 @@ LENGTHS = ("lengths", (1, 8, 3), "lengths")
 FILL = [ROOM, ("least", 1, "least"), ("lists", LISTS, "lists"), ("edit", ("put", 0, 1), "edit")]
 RING_CELLS = ("cells", 5, "cells from 3")
 AHEAD = ("ahead", 1, "ahead")
+TOUCHED = [("touches", TOUCHES, "touches")]
+ROOMY = TOUCHED + [("rooms", 2, "many rooms")]
+GAPS = ("gaps", ((1, 4),), "gaps")
+RULE = ("rule", (2, ((0, (1, 3), 1, 2, 1, 3), (1, (0,), 0, 1, 0, -1))), "rule")
+TWO_RULES = [("one", "last used", "rule"), ("other", "first in", "rule")]
+CROWD_ROWS = ("rows", CROWD, "crowd rows")
+ORDER = ("order", (0, 1, 0), "order")
+KEPT = [("room", 4, "room"), ("least", 1, "least"), ("lists", LISTS, "lists"), ("edit", ("put", 0, 1), "edit")]
+CELL = ("cell", 3, "cell")
 
 # For each function its arguments: name, a good one, the kind of wrong ones.
 FUNCTIONS = {
@@ -110,6 +121,42 @@ FUNCTIONS = {
         "fork_ways": [W, AHEAD],
         "fork_holds": [W, AHEAD, ANY_VALUE],
         "longest_common": [W],
+    },
+    gaps: {
+        "walk_gaps": TOUCHED,
+        "gap_loads": TOUCHED + [GAPS],
+        "are_kept": ROOMY + [GAPS],
+        "kept_run": ROOMY + [GAPS],
+        "run_gaps": ROOMY + [("run", RUN, "run")],
+    },
+    rules: {
+        "need_rule": [ROOMS, ("value", RULE[1], "rule")],
+        "rule_run": [ROOMS, RULE, ("walk", (0, 39, 0), "touches")],
+        "rule_moves": [ROOMS, RULE, ("walk", (0, 39, 0), "touches")],
+        "rule_table": [W, ROOMS, RULE],
+        "move_machine": [W, ROOMS, RULE],
+        "alike_paper": [W, ROOMS] + TWO_RULES,
+        "alike_holds": [W, ROOMS] + TWO_RULES + [ANY_VALUE],
+        "rule_slip": [W, ROOMS, RULE],
+        "slip_walk": [W, ROOMS, RULE],
+    },
+    crowds: {
+        "order_touches": [CROWD_ROWS, ORDER],
+        "crowd_paper": [CROWD_ROWS],
+        "crowd_holds": [CROWD_ROWS, ANY_VALUE],
+        "open_run": [CROWD_ROWS, ROOMS, ORDER],
+        "crowd_order": [CROWD_ROWS, ROOMS],
+    },
+    keeper: {
+        "kept_edit": KEPT,
+        "fill_height": [KEPT[0], KEPT[2]],
+    },
+    levels: {
+        "part_levels": [S, CELL, ROOM],
+        "part_tree": [S, CELL, ROOM],
+        "laid_paper": [S, ROOM, ROOMS],
+        "laid_holds": [S, ROOM, ROOMS, ANY_VALUE],
+        "least_room": [S, ROOMS],
     },
 }
 

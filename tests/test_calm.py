@@ -7,23 +7,11 @@ from itertools import combinations, permutations
 from slowshelves.calm import calm_holds, calm_paper, calm_rooms, is_calm, safe_begins
 from slowshelves.errors import InvalidSize
 from tests.support import (
-    ANY, Case, all_webs, bools_within, calm_by_words, last_used_moves, least_moves, lists_within, parts_of, rows_of,
-    unlike_webs, walks_of,
+    ANY, Case, all_webs, bools_within, calm_by_words, last_used_moves, least_moves, line, lists_within, parts_of, ring,
+    rows_of, unlike_webs, walks_of, whole,
 )
 
 STAR = (4, ((0, 1), (0, 2), (0, 3)))
-
-
-def line(many):
-    return many, tuple((block, block + 1) for block in range(many - 1))
-
-
-def ring(many):
-    return many, tuple(sorted([(block, block + 1) for block in range(many - 1)] + [(0, many - 1)]))
-
-
-def whole(many):
-    return many, tuple(combinations(range(many), 2))
 
 
 def can_stay(web, rooms, memory, place, steps):

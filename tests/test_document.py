@@ -9,6 +9,13 @@ ROWS = """
 >>> star = (4, ((0, 1), (0, 2), (0, 3)))
 >>> calm_rooms(star), calm_paper(star, 3)[0], grid_room(3, 50, 3)
 ((1, 2, 4, 5), 'fork', 3)
+>>> from slowshelves.rules import rule_run, rule_table, slip_walk
+>>> rule_run(2, "first in", [0, 1, 0, 2])
+((1, -1, (0,)), (1, -1, (0, 1)), (0, -1, (0, 1)), (1, 0, (1, 2)))
+>>> slip_walk((4, [(0, 1), (1, 2), (2, 3)]), 2, "first in")
+(1, 0, 1, 2, 1)
+>>> rule_table((4, [(0, 1), (0, 2), (0, 3)]), 3, "last used")[0]
+2
 """
 
 
@@ -17,7 +24,7 @@ class TestDocument(unittest.TestCase):
         rows = doctest.DocTestParser().get_doctest(ROWS, {}, "rows", None, 0)
         runner = doctest.DocTestRunner()
         runner.run(rows)
-        self.assertEqual((0, 4), (runner.failures, runner.tries))
+        self.assertEqual((0, 8), (runner.failures, runner.tries))
 
 
 if __name__ == "__main__":

@@ -145,11 +145,22 @@ class TestLanguage(unittest.TestCase):
         for place, node in nodes_of(ast.Name):
             if isinstance(node.ctx, ast.Load) and node.id in NAMES_OF_BUILTINS:
                 self.assertIn(node.id, BUILTINS, place)
+        own = {node.name for _, node in nodes_of(ast.FunctionDef) if isinstance(node.parent, ast.ClassDef)} - {"__init__"}
+        assigned = {node.attr for _, node in nodes_of(ast.Attribute) if isinstance(node.ctx, ast.Store)}
+        self.assertEqual(set(), own & (assigned | METHODS))
         for place, node in nodes_of(ast.Attribute):
             if isinstance(node.parent, ast.Call) and node.parent.func is node:
-                self.assertIn(node.attr, METHODS - {"sort"}, place)
+                self.assertIn(node.attr, METHODS - {"sort"} | own, place)
             else:
-                self.assertIn(node.attr, {"at", "word"}, place)
+                self.assertIn(node.attr, assigned, place)
+
+    def test_attributes_are_set_by_init(self):
+        """Each attribute is set on each object when it is created, and by its own class alone."""
+        for place, node in nodes_of(ast.ClassDef):
+            made = {part.attr for method in node.body if isinstance(method, ast.FunctionDef) and method.name == "__init__"
+                    for part in ast.walk(method) if isinstance(part, ast.Attribute) and isinstance(part.ctx, ast.Store)}
+            later = {part.attr for part in ast.walk(node) if isinstance(part, ast.Attribute) and isinstance(part.ctx, ast.Store)}
+            self.assertEqual(made, later, place)
 
     def test_words(self):
         for name, text, tree in FILES:
@@ -158,7 +169,7 @@ class TestLanguage(unittest.TestCase):
             for token in tokenize.generate_tokens(io.StringIO(text).readline):
                 if token.type == tokenize.NAME:
                     self.assertNotIn(token.string, BARRED_WORDS, name)
-                if token.type == tokenize.STRING and ast.literal_eval(token.string) not in docs:
+                if token.type == tokenize.STRING and token.string[0] != "f" and ast.literal_eval(token.string) not in docs:
                     self.assertFalse(BARRED_WORDS & set(token.string.strip("\"'").split()), name)
             for node in ast.walk(tree):
                 if isinstance(node, ast.Constant) and isinstance(node.value, str):
@@ -207,6 +218,12 @@ class TestLanguage(unittest.TestCase):
     def test_loop_variables_named_as_nothing_are_not_read(self):
         for place, node in nodes_of(ast.Name):
             self.assertFalse(node.id == "_" and isinstance(node.ctx, ast.Load), place)
+
+    def test_stars_in_calls_stand_before_names(self):
+        for place, node in nodes_of(ast.Call):
+            for argument in node.args:
+                if isinstance(argument, ast.Starred):
+                    self.assertIsInstance(argument.value, (ast.Name, ast.Attribute), place)
 
     def test_keywords_of_builtins(self):
         allowed = {"sorted": {"key", "reverse"}, "min": {"key", "default"}, "max": {"key", "default"},

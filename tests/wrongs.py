@@ -2,14 +2,20 @@
 
 from slowshelves.errors import (
     InvalidBlock,
+    InvalidCell,
     InvalidEdit,
     InvalidFold,
+    InvalidGaps,
     InvalidIndex,
     InvalidLayout,
     InvalidLengths,
     InvalidLists,
+    InvalidOrder,
     InvalidRoom,
     InvalidRooms,
+    InvalidRows,
+    InvalidRule,
+    InvalidRun,
     InvalidShelf,
     InvalidSize,
     InvalidTrack,
@@ -26,6 +32,11 @@ GOOD_LINKS = [(0, 1), [3, 1], (1, 0)]
 GOOD_CHAINS = [("list", (0,)), ["ring", [3, 1, 2]]]
 LAYOUT = (0, 0, 1, 2)
 LISTS = (((5, 3), (7, 4)), (), ((2, 1),))
+# Five touches with their gaps (0, 3) and (1, 4), and a run of them with two rooms.
+TOUCHES = (0, 1, 2, 0, 1)
+RUN = ((), (), (0,), (1,), (2,))
+# Rows of two touches and of one.
+CROWD = ((0, 1), (2,))
 
 
 def wrong_places(good, wrong, error):
@@ -160,6 +171,72 @@ def edits():
     return [(item, InvalidEdit()) for item in wrong]
 
 
+def many_rooms():
+    """Wrong rooms for TOUCHES."""
+    whole = [(item, InvalidRooms(-1)) for item in NO_NUMBER + (0, 6, HUGE, (1,) * 4, [2] * 6, ["bad"] * 6, ("bad",) * 4)]
+    rows = []
+    for at in range(5):
+        for item in NO_NUMBER + (0, 6, HUGE):
+            rows.append(([5] * at + [item] + [1] * (4 - at), InvalidRooms(at)))
+            rows.append(((1,) * at + (item,) * (5 - at), InvalidRooms(at)))
+    return whole + rows
+
+
+def gaps():
+    """Wrong gaps of TOUCHES."""
+    wrong = NO_PAIR + ((0, 4), (3, 0), (0, 1), (1, 3), (4, 5), (0, 3, 4), (-1, 3), (HUGE, HUGE), (0, 0))
+    wrong += tuple((0, item) for item in NO_NUMBER) + tuple([item, 3] for item in NO_NUMBER) + ((True, 4), (False, 3))
+    whole = [(item, InvalidGaps(-1)) for item in NO_SEQUENCE]
+    again = [(((0, 3), [0, 3]), InvalidGaps(1)), ([[1, 4], (0, 3), (1, 4), 7], InvalidGaps(2))]
+    return whole + wrong_places([(1, 4), [0, 3]], wrong, InvalidGaps) + again
+
+
+def runs():
+    """Wrong runs of TOUCHES with two rooms."""
+    whole = [(item, InvalidRun(-1)) for item in NO_SEQUENCE]
+    lots = NO_SEQUENCE + ((3,), (-1,), (HUGE,), (0, 1), (0, 1, 2), (0, 0), ("0",), (None,), ((0,),), (False,), [True, 2])
+    rows = [(RUN[:at], InvalidRun(at)) for at in range(5)] + [(RUN + (item,), InvalidRun(5)) for item in lots + ((),)]
+    for at in range(5):
+        own = ((TOUCHES[at],), (0,) if at < 2 else ())
+        for item in lots + own:
+            rows.append((RUN[:at] + (item,) + RUN[at + 1:], InvalidRun(at)))
+            rows.append((list(RUN[:at]) + [item], InvalidRun(at)))
+    return whole + rows
+
+
+def rules():
+    """Wrong rules for two rooms."""
+    good = [(0, (), -1, 0, 1, -1), [1, [0, 1], 0, 2, 0, 1]]
+    rows = NO_SEQUENCE + ((), (0,), (0, (), -1, 1, 1), (0, (), -1, 1, 1, -1, -1), (0, (1,), 1, 1, 0, -1), (0, (0, 1, 2), 0, 3, 0, 0))
+    rows += ((0, (2, 1), 1, 0, 0, 1), (0, (1, 1), 1, 0, 0, 1), (0, (1, 2), 3, 0, 0, 1), (0, (1, 2), -1, 0, 0, 1), (0, (), 0, 1, 0, -1))
+    rows += ((0, (1, 2), 1, 0, 0, -1), (0, (1, 2), 1, 0, 0, 0), (0, (1, 2), 1, 2, 0, 1), (0, (1,), 1, 0, 0, 1), (0, (40,), 40, 1, 0, -1))
+    for item in NO_NUMBER + (HUGE,):
+        rows += ((item, (1, 2), 1, 0, 0, 1), (0, (1, 2), item, 0, 0, 1), (0, (1, 2), 1, item, 0, 1), [0, [1, 2], 1, 0, item, 1])
+        rows += ((0, (1, 2), 1, 0, 0, item), (0, (1, item), 1, 0, 0, 1))
+        if not isinstance(item, (list, tuple)):
+            rows += ((0, item, 1, 0, 0, 1),)
+    rows += ((2, (), -1, 1, 1, -1), (0, (), -1, 1, 2, -1), (0, (), -1, 40, 1, -1))
+    whole = [(item, InvalidRule(-1)) for item in NO_PAIR + ("last", "lastused", "first in ", "First in", ("last used",))]
+    whole += [((item, ["bad"]), InvalidRule(-1)) for item in NO_NUMBER + (0, 721, HUGE, "last used")]
+    whole += [((2, item), InvalidRule(-1)) for item in NO_SEQUENCE]
+    again = [((2, (good[0], good[0])), InvalidRule(1)), ([2, [good[1], good[0], good[1][:4] + [1, 0]]], InvalidRule(2))]
+    return whole + [((2, row), error) for row, error in wrong_places(good, rows, InvalidRule)] + again
+
+
+def crowd_rows():
+    rows = NO_SEQUENCE + ((), [], (0,) * 61) + tuple((0, item) for item in NO_NUMBER + (40, HUGE))
+    whole = [(item, InvalidRows(-1)) for item in NO_SEQUENCE + ((), [], ((0,),) * 5, ["bad"] * 5)]
+    return whole + wrong_places([(0, 0, 39), [7]], rows, InvalidRows)
+
+
+def orders():
+    """Wrong orders of CROWD."""
+    whole = [(item, InvalidOrder(-1)) for item in NO_SEQUENCE]
+    short = [((), InvalidOrder(0)), ([0], InvalidOrder(1)), ((1, 0), InvalidOrder(2)), ((0, 0), InvalidOrder(2))]
+    many = [((0, 0, 0, 1), InvalidOrder(2)), ((1, 1, "bad"), InvalidOrder(1)), ((0, 1, 0, 0), InvalidOrder(3))]
+    return whole + short + many + wrong_places([0, 1, 0], NO_NUMBER + (2, HUGE), InvalidOrder)
+
+
 KINDS = {
     "shelf": shelves(),
     "web": webs(),
@@ -192,5 +269,12 @@ KINDS = {
     "arms": arm_lengths(),
     "lengths": lengths(),
     "ahead": size("ahead", 41, HUGE),
+    "cell": of_number(InvalidCell, 4, HUGE),
+    "many rooms": many_rooms(),
+    "gaps": gaps(),
+    "run": runs(),
+    "rule": rules(),
+    "crowd rows": crowd_rows(),
+    "order": orders(),
     "any": [],
 }
