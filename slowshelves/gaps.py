@@ -38,14 +38,27 @@ def need_run(touches, rooms, value):
     """Any value as a run of the touches, with rooms for each moment."""
     if not is_sequence(value):
         raise InvalidRun(-1)
+    at = _first_wrong_lot(touches, rooms, value)
+    if at is not None:
+        raise InvalidRun(at)
+    return tuple([tuple(lot) for lot in value])
+
+
+def is_paper_run(touches, rooms, value):
+    """Whether any value is a run of the touches, in tuples, with rooms for each moment."""
+    if not isinstance(value, tuple) or not all([isinstance(lot, tuple) for lot in value]):
+        return False
+    return _first_wrong_lot(touches, rooms, value) is None
+
+
+def _first_wrong_lot(touches, rooms, row):
+    """The first moment at which the row is no run, or None."""
     memory = ()
     for at, block in enumerate(touches):
-        if at == len(value) or not _is_out_lot(memory, rooms[at], block, value[at]):
-            raise InvalidRun(at)
-        memory = memory_behind(memory, block, value[at])
-    if len(value) > len(touches):
-        raise InvalidRun(len(touches))
-    return tuple([tuple(lot) for lot in value])
+        if at == len(row) or not _is_out_lot(memory, rooms[at], block, row[at]):
+            return at
+        memory = memory_behind(memory, block, row[at])
+    return None if len(row) == len(touches) else len(touches)
 
 
 def _is_out_lot(memory, rooms, block, value):

@@ -4,7 +4,8 @@ import importlib
 import unittest
 
 from slowshelves import (
-    blocks, calm, crossings, crowds, edits, forks, gaps, keeper, levels, lists, rules, shelves, tracks,
+    ahead, blocks, calm, crossings, crowds, edits, endless, forks, gaps, keeper, levels, lists, rules, shares, shelves,
+    texts, tracks,
 )
 from slowshelves.errors import ShelfError
 from tests.support import ANY, Case, parameter_names
@@ -37,6 +38,9 @@ CROWD_ROWS = ("rows", CROWD, "crowd rows")
 ORDER = ("order", (0, 1, 0), "order")
 KEPT = [("room", 4, "room"), ("least", 1, "least"), ("lists", LISTS, "lists"), ("edit", ("put", 0, 1), "edit")]
 CELL = ("cell", 3, "cell")
+LAID = [S, LB, ROOMS]
+PAPER = ("paper", shares.share_paper(SHELF, LAYOUT, 2), "paper")
+BEHIND = ("behind", 2, "behind")
 
 # For each function its arguments: name, a good one, the kind of wrong ones.
 FUNCTIONS = {
@@ -158,6 +162,36 @@ FUNCTIONS = {
         "laid_holds": [S, ROOM, ROOMS, ANY_VALUE],
         "least_room": [S, ROOMS],
     },
+    shares: {
+        "share_states": LAID,
+        "forced_row": LAID + [("steps", 5, "index to 100")],
+        "share_paper": LAID,
+        "least_share": LAID,
+        "share_holds": LAID + [ANY_VALUE],
+        "share_run": LAID + [PAPER, ("way", (0, 1, 2, 1), "way")],
+        "forced_play": LAID + [PAPER, ("answers", (0, 7, 1), "answers")],
+        "room_shares": LAID[:2],
+        "core_blocks": [W, ROOMS],
+    },
+    texts: {
+        "shelf_text": [S],
+        "layout_text": [L],
+        "web_text": [W],
+        "walk_text": [("walk", (0, 39, 0), "touches")],
+        "read_shelf": [("text", "shelf 4\nlist 0 1\nring 3 2 1", "shelf text")],
+        "read_layout": [S, ROOM, ("text", "block 0 3\nblock 2 1", "layout text")],
+        "read_web": [("text", "web 4\n1 to 0 2 3", "web text")],
+        "read_walk": [W, ("text", "0 1 2 3 1 0", "walk text")],
+    },
+    ahead: {
+        "ahead_needed": [W, ROOMS],
+        "two_room_rounds": [("walk", (0, 39, 0), "touches")],
+        "seer_run": [W, ROOMS, WALK, AHEAD],
+    },
+    endless: {
+        "beaten_walk": [W, ROOMS, RULE, BEHIND],
+        "beaten_holds": [W, ROOMS, RULE, BEHIND, ANY_VALUE],
+    },
 }
 
 
@@ -179,7 +213,12 @@ class TestArguments(Case):
 
     def test_good_ones_raise_nothing(self):
         for function, _, rows in self.each():
-            self.tell(function, *[good for good, _ in rows])
+            good = [good for good, _ in rows]
+            if "paper" in [kind for _, kind in rows]:
+                # Lists do not stand for papers, or within them.
+                self.assertEqual(function(*good), function(**dict(zip(parameter_names(function), good))))
+            else:
+                self.tell(function, *good)
 
     def test_each_wrong_value_at_each_argument(self):
         for function, _, rows in self.each():

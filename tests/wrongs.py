@@ -1,6 +1,7 @@
 """For each kind of argument all sorts of wrong values, each with its error."""
 
 from slowshelves.errors import (
+    InvalidAnswers,
     InvalidBlock,
     InvalidCell,
     InvalidEdit,
@@ -11,6 +12,7 @@ from slowshelves.errors import (
     InvalidLengths,
     InvalidLists,
     InvalidOrder,
+    InvalidPaper,
     InvalidRoom,
     InvalidRooms,
     InvalidRows,
@@ -18,11 +20,12 @@ from slowshelves.errors import (
     InvalidRun,
     InvalidShelf,
     InvalidSize,
+    InvalidText,
     InvalidTrack,
     InvalidWalk,
     InvalidWeb,
 )
-from tests.support import NO_NUMBER, NO_SEQUENCE
+from tests.support import ANY, NO_NUMBER, NO_SEQUENCE
 
 HUGE = 10 ** 30
 NO_PAIR = NO_SEQUENCE + ((), (1,), [2], (1, (), ()), [1, [], []], ((), ()), ([],))
@@ -237,6 +240,18 @@ def orders():
     return whole + short + many + wrong_places([0, 1, 0], NO_NUMBER + (2, HUGE), InvalidOrder)
 
 
+def answers():
+    whole = [(item, InvalidAnswers(-1)) for item in NO_SEQUENCE]
+    return whole + wrong_places([0, HUGE, 7], NO_NUMBER + (-HUGE,), InvalidAnswers)
+
+
+def texts(good):
+    """No strings, and beginnings of a good text with a sign behind them that is in no text."""
+    wrong = [(item, InvalidText(-1)) for item in ANY if not isinstance(item, str)]
+    between = [at for at in range(1, len(good)) if " " in good[at - 1:at + 1] or "\n" in good[at - 1:at + 1]]
+    return wrong + [(good[:at] + "?" + good[at:], InvalidText(at)) for at in [0] + between + [len(good)]]
+
+
 KINDS = {
     "shelf": shelves(),
     "web": webs(),
@@ -276,5 +291,13 @@ KINDS = {
     "rule": rules(),
     "crowd rows": crowd_rows(),
     "order": orders(),
+    "index to 100": of_number(InvalidIndex, 101, HUGE),
+    "paper": [(item, InvalidPaper(-1)) for item in ANY],
+    "answers": answers(),
+    "behind": size("behind", 0, 10, HUGE),
+    "shelf text": texts("shelf 4\nlist 0 1\nring 3 2 1"),
+    "layout text": texts("block 0 3\nblock 2 1"),
+    "web text": texts("web 4\n1 to 0 2 3"),
+    "walk text": texts("0 1 2 3 1 0"),
     "any": [],
 }
