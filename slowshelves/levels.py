@@ -42,7 +42,7 @@ def _need_part(shelf, cell):
 
 
 def _is_ring(rows, part):
-    return len(part) > 2 and all([len(rows[cell]) == 2 for cell in part])
+    return all([len(rows[cell]) == 2 for cell in part])
 
 
 def _is_tree(rows, part):

@@ -133,15 +133,17 @@ def _read_chain(reader, cells):
     # A ring that has too few cells to be one cannot be read, whatever comes.
     kind = reader.take(("list", "ring") if cells >= 3 else ("list",))
     least = 3 if kind == "ring" else 1
+    left = {cell: True for cell in range(cells)}
     row = []
     while len(row) < least or reader.goes_on():
-        row.append(reader.take_number([cell for cell in range(cells) if cell not in row]))
+        row.append(reader.take_number(left))
+        del left[row[-1]]
     return kind, tuple(row)
 
 
 def read_layout(shelf, room, text):
     """The layout of a text, of this shelf with at most room cells in a block."""
-    left = list(range(need_shelf(shelf)[0]))
+    left = {cell: True for cell in range(need_shelf(shelf)[0])}
     need_room(room)
     reader = Reader(text)
     blocks = []
@@ -149,7 +151,6 @@ def read_layout(shelf, room, text):
         if blocks:
             reader.take((NEWLINE,))
         blocks.append(_read_block(reader, room, left))
-        left = [cell for cell in left if cell not in blocks[-1]]
     if not reader.is_done():
         reader.refuse()
     found = {cell: at for at, row in enumerate(blocks) for cell in row}
@@ -157,12 +158,12 @@ def read_layout(shelf, room, text):
 
 
 def _read_block(reader, room, left):
-    """The cells of the next block, of those that are left."""
+    """The cells of the next block, taken from those that are left."""
     reader.take(("block",))
     row = []
     while not row or reader.goes_on():
-        free = [cell for cell in left if cell not in row]
-        row.append(reader.take_number(free if len(row) < room else []))
+        row.append(reader.take_number(left if len(row) < room else ()))
+        del left[row[-1]]
     return row
 
 
@@ -195,5 +196,5 @@ def read_walk(web, text):
     reader = Reader(text)
     walk = [reader.take_number(list(range(len(rows))))]
     while not reader.is_done():
-        walk.append(reader.take_number(rows[walk[-1]] if len(walk) < MOST_TOUCHES else []))
+        walk.append(reader.take_number(rows[walk[-1]] if len(walk) < MOST_TOUCHES else ()))
     return tuple(walk)

@@ -198,9 +198,26 @@ class TestWalker(Case):
                 self.play(web, rooms, lambda walker, block: luck.choice(walker.memory), 90)
 
     def test_a_fork_beside_a_ring_is_taken(self):
-        for rooms in (3,):
-            self.assertTrue(calm_holds(BOTH, rooms, ("ring", (0, 1, 2, 3, 4))))
-            self.play(BOTH, rooms, lambda walker, block: walker.memory[0], 90)
+        luck = random.Random(7)
+        beside = [(BOTH, 3), *[(self.two_parts(ring(many + 2), ring(many + 1)), many) for many in (2, 3, 4, 5)],
+                  (self.two_parts(ring(4), whole(3)), 2)]
+        for web, rooms in beside:
+            length = 5 if web == BOTH else rooms + 2
+            self.assertTrue(calm_holds(web, rooms, ("ring", tuple(range(length)))))
+            self.assertTrue(has_fork(web, rooms))
+            for answer in self.answers(luck):
+                self.play(web, rooms, answer, 90)
+
+    def two_parts(self, one, other):
+        return one[0] + other[0], one[1] + tuple((a + one[0], b + one[0]) for a, b in other[1])
+
+    def test_small_parts_are_left_aside(self):
+        luck = random.Random(8)
+        for rooms in (2, 3, 4, 5):
+            for other in (ring(rooms + 1), ring(rooms + 2), whole(rooms + 1), ring(6)):
+                web = self.two_parts(whole(rooms), other)
+                if not is_calm(web, rooms):
+                    self.play(web, rooms, lambda walker, block: luck.choice(walker.memory), 60)
 
 
 class TestBeaten(Case):

@@ -11,7 +11,8 @@ from slowshelves.rules import (
     alike_holds, alike_paper, move_machine, need_rule, rule_moves, rule_run, rule_slip, rule_table, slip_walk,
 )
 from tests.support import (
-    ANY, Case, all_webs, bools_within, least_moves, line, lists_within, parts_of, rows_of, unlike_webs, walks_of, whole,
+    ANY, Case, all_webs, bools_within, least_moves, line, lists_within, parts_of, ring, rows_of, unlike_webs,
+    walks_of, whole,
 )
 
 WORDS = ("last used", "first in")
@@ -231,7 +232,10 @@ class TestTables(Case):
         count += [(state, (1, 2), 1, 0, state, 2) for state in range(600)] + [(599, (0, 1), 1, 2, 599, 1)]
         self.assertEqual((1, 0) * 300 + (1, 2), rule_slip(line(3), 2, (600, count)))
         self.assertEqual((1, 0) * 300 + (1, 2, 1), slip_walk(line(3), 2, (600, count)))
-        self.assertEqual(("walk", (1, 0) * 300 + (1, 2, 1)), alike_paper(line(3), 2, (600, count), "last used"))
+        paper = alike_paper(line(3), 2, (600, count), "last used")
+        self.assertEqual(("walk", (1, 0) * 300 + (1, 2, 1)), paper)
+        # The judge lets walks of at most 400 touches.
+        self.fails_to_hold(alike_holds, line(3), 2, (600, count), "last used", paper)
 
     def test_errors(self):
         for function in (rule_table, move_machine, rule_slip, slip_walk):
@@ -337,6 +341,16 @@ class TestMachines(Case):
         ]
         for told in bad:
             self.fails_to_hold(alike_holds, web, 2, "last used", "first in", ("alike", told))
+
+    def test_great_machines(self):
+        for web, rooms, many in ((whole(6), 5, 5467), (whole(6), 3, 427), (ring(6), 3, None)):
+            table = rule_table(web, rooms, "first in")
+            kind, machine = paper = alike_paper(web, rooms, "first in", table)
+            self.assertEqual(many or len(machine), len(machine))
+            self.assertTrue(alike_holds(web, rooms, "first in", table, paper))
+            self.assertFalse(alike_holds(web, rooms, "first in", "last used", paper))
+            last = machine[-1][:-1] + ((machine[-1][-1][0], 1 - machine[-1][-1][1], machine[-1][-1][2]),)
+            self.assertFalse(alike_holds(web, rooms, "first in", table, (kind, machine[:-1] + (last,))))
 
     def test_walks_that_are_let(self):
         web = whole(3)
