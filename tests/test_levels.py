@@ -300,6 +300,13 @@ class TestLaid(Case):
         both = (20, LADDER[1] + tuple(("list", pair) for pair in combinations(range(14, 20), 2)))
         self.fails(InvalidSize("cells"), laid_paper, both, 1, 3)
         self.fails(InvalidSize("cells"), laid_paper, (20, both[1][::-1]), 1, 3)
+        first = (20, tuple(("list", pair) for pair in combinations(range(6), 2))
+                 + tuple((kind, tuple(cell + 6 for cell in row)) for kind, row in LADDER[1]))
+        for rooms in (2, 3):
+            self.assertEqual("tried", laid_paper((6, first[1][:15]), 1, rooms)[0])
+            self.fails(InvalidSize("cells"), laid_paper, first, 1, rooms)
+            self.holds(laid_holds, first, 1, rooms, ("tried", 5))
+            self.fails_to_hold(laid_holds, first, 1, rooms, ("tried", 6))
         self.fails(InvalidShelf(-1), laid_paper, 0, 0, 0)
         self.fails(InvalidRoom(-1), laid_paper, LADDER, 0, 0)
         self.fails(InvalidRooms(-1), laid_paper, LADDER, 2, 0)
