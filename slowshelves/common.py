@@ -35,6 +35,16 @@ def is_unlike_row(value, limit):
     return all([is_below(item, limit) for item in value]) and len(set(value)) == len(value)
 
 
+def first_no_new_number(row, limit):
+    """The first place of a row with no number below the limit, or one that came before, or None."""
+    met = {}
+    for at, item in enumerate(row):
+        if not is_below(item, limit) or item in met:
+            return at
+        met[item] = True
+    return None
+
+
 def is_paper_row(value, limit):
     """Whether any value is a tuple, no list, of unlike numbers below the limit."""
     return isinstance(value, tuple) and is_unlike_row(value, limit)
@@ -50,6 +60,15 @@ def is_lot(value):
 def is_lot_of(value, row):
     """Whether any value is a lot of numbers of the row."""
     return is_lot(value) and all([item in row for item in value])
+
+
+def is_exactly(value, told):
+    """Whether any value is what is told, of the same kinds throughout; a list is no tuple, a bool no integer."""
+    if isinstance(told, tuple):
+        if not isinstance(value, tuple) or len(value) != len(told):
+            return False
+        return all([is_exactly(item, told_item) for item, told_item in zip(value, told)])
+    return isinstance(value, bool) == isinstance(told, bool) and value == told
 
 
 def need_size(value, low, high, word):
@@ -99,6 +118,16 @@ def _met_from(rows, first):
 def reached_row(rows, first):
     """All numbers that hang together with the first, nearer ones first."""
     return list(_met_from(rows, first))
+
+
+def lane_row(rows, first):
+    """The numbers from the first on, each one linked to the one ahead, as long as one is left."""
+    row = [first]
+    following = [first]
+    while following:
+        following = [other for other in rows[row[-1]] if other not in row]
+        row.extend(following[:1])
+    return row
 
 
 def far_rows(rows, first):

@@ -2,10 +2,10 @@
 
 from slowshelves.blocks import need_rooms, need_web, neighbours
 from slowshelves.calm import is_calm
-from slowshelves.chases import aside_block, gaining_row, tour_of
-from slowshelves.common import is_integer, need_size, rows_within, shortest_way
-from slowshelves.errors import InvalidOut, Refused
-from slowshelves.gaps import is_paper_run, memory_behind, staying_gaps
+from slowshelves.chases import Chase, aside_block, gaining_row, tour_of
+from slowshelves.common import need_size, rows_within
+from slowshelves.errors import Refused
+from slowshelves.gaps import is_paper_run, moves_of
 from slowshelves.rules import need_rule
 from slowshelves.tracks import is_walk_on
 from slowshelves.turns import NO_OUT, first_standing, next_turn, rule_turns, turns_along
@@ -13,7 +13,7 @@ from slowshelves.turns import NO_OUT, first_standing, next_turn, rule_turns, tur
 MOST_BEHIND = 9
 
 
-class Walker:
+class Walker(Chase):
     """Walks a web that is not calm against whoever answers, beside a mate who moves less.
 
     Again and again both hold one lot of blocks that hang together; then the walk leaves it.
@@ -24,19 +24,10 @@ class Walker:
         self.rooms = need_rooms(rooms)
         if is_calm(web, rooms):
             raise Refused(-1)
-        self.walk = ()
-        self.memory = ()
-        self.moves = 0
-        self.gained = 0
-        self._is_fork, self._row = gaining_row(neighbours(web), rooms)
-        self._rows = rows_within(neighbours(web), self._row)
-        self._plan = tour_of(self._rows, self._row[:rooms])
-        self._mate = ()
-        self._outs = ()
-        # On a ring the mate's lot is a stretch: where in the row it begins, and the moments
-        # since the round began at which both moved.
-        self._first = 0
-        self._round = ()
+        self._is_fork, row = gaining_row(neighbours(web), rooms)
+        rows = rows_within(neighbours(web), row)
+        Chase.__init__(self, rooms, row, rows)
+        self._plan = tour_of(rows, row[:rooms])
 
     def next_block(self):
         """The block that is touched next."""
@@ -47,68 +38,24 @@ class Walker:
         block = self._plan[0]
         self._need_out(block, out)
         lot = ()
-        if block not in self._mate and len(self._mate) == self.rooms:
-            lot = (self._mate_out(block, out),)
-        if block not in self.memory:
-            self.moves += 1
-            self.gained += 1 if block in self._mate else 0
-        self.memory = memory_behind(self.memory, block, () if out is None else (out,))
-        self._mate = memory_behind(self._mate, block, lot)
-        self._outs = self._outs + (lot,)
-        self.walk = self.walk + (block,)
+        if self._has_to_choose(self._mate, block):
+            lot = (aside_block(self._rows, self._row, block, out) if self._is_fork else self._leave_last(),)
+        self._go_on(block, out, lot)
         self._plan = self._plan[1:]
         if not self._plan:
             self._plan = self._next_plan()
 
-    def _need_out(self, block, out):
-        full = block not in self.memory and len(self.memory) == self.rooms
-        if full and (not is_integer(out) or out not in self.memory):
-            raise InvalidOut(-1)
-        if not full and out is not None:
-            raise InvalidOut(-1)
-
-    def _mate_out(self, block, out):
-        """What goes out of the mate's memory where both move."""
-        if self._is_fork:
-            return aside_block(self._rows, self._row, block, out)
-        # As long as the answers are so, too, nothing tells whether the mate kept another one.
-        self._first += 1
-        self._round = self._round + (len(self.walk),)
-        return self._ring_block(self._first - 1)
-
-    def _ring_block(self, place):
-        return self._row[place % len(self._row)]
-
     def _next_plan(self):
         """The blocks to go to from here."""
-        if not self._lacking() and len(self._round) == len(self._row) - self.rooms:
-            self._close_round()
+        self._end_round()
         lacking = self._lacking()
         if lacking:
-            self._round = ()
-            return self._way_to(self._mate, lacking[0])
+            return self._way_within(self._mate, self.walk[-1], lacking[0])
         if self._is_fork:
             ahead = [block for block in self._row if block not in self._mate][0]
         else:
-            ahead = self._ring_block(self._first + self.rooms)
-        return self._way_to(self._mate + (ahead,), ahead)
-
-    def _lacking(self):
-        """The mate's blocks that are not in memory: going there the rule alone moves."""
-        return [block for block in self._mate if block not in self.memory]
-
-    def _way_to(self, lot, block):
-        return shortest_way(rows_within(self._rows, lot), self.walk[-1], block)[1:]
-
-    def _close_round(self):
-        """The ring is gone round: the mate has kept the block where the round began."""
-        begin = self._first - len(self._round)
-        outs = list(self._outs)
-        for at, moment in enumerate(self._round):
-            outs[moment] = (self._ring_block(begin + 1 + at),)
-        self._outs = tuple(outs)
-        self._first += 1
-        self._mate = tuple(sorted([self._ring_block(self._first + at) for at in range(self.rooms)]))
+            ahead = self._next_on_ring()
+        return self._way_within(self._mate + (ahead,), self.walk[-1], ahead)
 
     def mate_run(self):
         """Some run of the walk with so many fewer moves as were gained."""
@@ -142,4 +89,4 @@ def beaten_holds(web, rooms, rule, behind, value):
     if not is_paper_run(walk, (rooms,) * len(walk), run):
         return False
     moves = sum([moved for moved, _, _ in turns_along(rule_turns(rooms, rule), walk)])
-    return moves - (len(walk) - len(staying_gaps(walk, run))) >= behind
+    return moves - moves_of(walk, run) >= behind

@@ -1,7 +1,7 @@
 """Gaps of touches, and runs in which the blocks of kept gaps stay."""
 
 from slowshelves.blocks import MOST_ROOMS
-from slowshelves.common import is_integer, is_lot_of, is_pair, is_sequence, is_within
+from slowshelves.common import is_integer, is_lot, is_lot_of, is_pair, is_sequence, is_within
 from slowshelves.errors import InvalidGaps, InvalidRooms, InvalidRun, Refused
 from slowshelves.tracks import need_touches
 
@@ -32,6 +32,19 @@ def need_gaps(touches, value):
         gaps.append((gap[0], gap[1]))
         del left[gaps[-1]]
     return tuple(gaps)
+
+
+def is_kept_lot(touches, rooms, value):
+    """Whether any value is a lot, in tuples, of kept gaps of the touches, with rooms for each moment."""
+    if not isinstance(value, tuple):
+        return False
+    gaps = {gap: True for gap in touch_gaps(touches)}
+    for at, gap in enumerate(value):
+        if not isinstance(gap, tuple) or len(gap) != 2 or not is_lot(gap) or gap not in gaps:
+            return False
+        if at > 0 and value[at - 1] >= gap:
+            return False
+    return first_overfull(rooms, value) is None
 
 
 def need_run(touches, rooms, value):
@@ -101,10 +114,10 @@ def are_kept(touches, rooms, gaps):
     """Whether over each moment go fewer gaps than there are rooms at it."""
     touches = need_touches(touches)
     rooms = need_many_rooms(touches, rooms)
-    return _first_overfull(rooms, need_gaps(touches, gaps)) is None
+    return first_overfull(rooms, need_gaps(touches, gaps)) is None
 
 
-def _first_overfull(rooms, gaps):
+def first_overfull(rooms, gaps):
     """The first moment with too many of the gaps over it, or None."""
     for moment, load in enumerate(loads_of(len(rooms), gaps)):
         if load >= rooms[moment]:
@@ -117,13 +130,14 @@ def kept_run(touches, rooms, gaps):
     touches = need_touches(touches)
     rooms = need_many_rooms(touches, rooms)
     gaps = need_gaps(touches, gaps)
-    moment = _first_overfull(rooms, gaps)
+    moment = first_overfull(rooms, gaps)
     if moment is not None:
         raise Refused(moment)
-    return _staying_run(touches, rooms, gaps)
+    return staying_run(touches, rooms, gaps)
 
 
-def _staying_run(touches, rooms, gaps):
+def staying_run(touches, rooms, gaps):
+    """Some run in which the block of each of these kept gaps stays, with rooms for each moment."""
     ends = {first: last for first, last in gaps}
     stays = {}
     memory = ()
@@ -157,3 +171,8 @@ def staying_gaps(touches, run):
         for other in run[at]:
             del last[other]
     return tuple(sorted(gaps))
+
+
+def moves_of(touches, run):
+    """How many moves a run of the touches makes."""
+    return len(touches) - len(staying_gaps(touches, run))

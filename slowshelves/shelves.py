@@ -15,12 +15,13 @@ def need_shelf(value):
     if not is_within(cells, 1, MOST_CELLS) or not is_sequence(chains):
         raise InvalidShelf(-1)
     for at, chain in enumerate(chains):
-        if at == MOST_CHAINS or not _is_chain(cells, chain):
+        if at == MOST_CHAINS or not is_chain(cells, chain):
             raise InvalidShelf(at)
     return cells, tuple([(kind, tuple(row)) for kind, row in chains])
 
 
-def _is_chain(cells, value):
+def is_chain(cells, value):
+    """Whether any value is a chain (kind, row) of so many cells."""
     if not is_pair(value) or not is_unlike_row(value[1], cells):
         return False
     kind, row = value

@@ -45,7 +45,12 @@ def need_walk(web, value):
 
 def is_walk_on(rows, value):
     """Whether any value is a walk, in a tuple, of the web with these rows, as one that may be passed."""
-    return isinstance(value, tuple) and _is_row_of(value, MOST_TOUCHES) and _first_off(rows, value) is None
+    return is_long_walk_on(rows, value) and len(value) <= MOST_TOUCHES
+
+
+def is_long_walk_on(rows, value):
+    """Whether any value is a walk, in a tuple, however long, of the web with these rows."""
+    return isinstance(value, tuple) and len(value) >= 1 and _first_off(rows, value) is None
 
 
 def _first_off(rows, row):
@@ -201,9 +206,9 @@ def follow_holds(shelf, layout, value):
     kind, told = value
     if kind == "all":
         return lots_hold(neighbours(web), rows, blocks, told)
-    if kind != "walk" or not isinstance(told, tuple) or not told:
+    if kind != "walk" or not is_long_walk_on(neighbours(web), told):
         return False
-    return _first_off(neighbours(web), told) is None and not _lots_along(rows, blocks, told)[-1]
+    return not _lots_along(rows, blocks, told)[-1]
 
 
 def walk_count(web, touches):

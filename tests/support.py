@@ -6,6 +6,7 @@ import unittest
 from itertools import combinations, permutations, product
 
 from slowshelves.errors import InvalidEdit, InvalidShelf, ShelfError
+from slowshelves.house import House
 
 
 def nested(depth, worth):
@@ -43,10 +44,21 @@ def parameter_names(function):
 
 
 def is_told(value):
-    """Whether a returned value is of tuples, integers, strings, None and bools throughout."""
+    """Whether a returned value is of tuples, integers, strings, None, bools and houses of such throughout."""
     if type(value) is tuple:
         return all(is_told(item) for item in value)
+    if type(value) is House:
+        return all(is_told(item) for item in vars(value).values())
     return value is None or type(value) in (int, str, bool)
+
+
+def form(value):
+    """What any value is made of, told so that values of unlike kinds are told unlike."""
+    if isinstance(value, (list, tuple)):
+        return (type(value).__name__, [form(item) for item in value])
+    if hasattr(value, "__dict__") and not isinstance(value, Exception):
+        return (type(value).__name__, {name: form(item) for name, item in vars(value).items()})
+    return repr(value)
 
 
 class Case(unittest.TestCase):
@@ -54,31 +66,31 @@ class Case(unittest.TestCase):
         """The answer, the same in all forms of the call; with paper the last argument stays as it is."""
         told = None
         for turn in (in_tuples, in_lists, lambda worth: worth):
-            form = [turn(argument) for argument in arguments]
+            row = [turn(argument) for argument in arguments]
             if paper:
-                form[-1] = arguments[-1]
-            before = copy.deepcopy(form)
-            answers = [function(*form), function(**dict(zip(parameter_names(function), form)))]
-            self.assertEqual(repr(before), repr(form))
+                row[-1] = arguments[-1]
+            before = copy.deepcopy(row)
+            answers = [function(*row), function(**dict(zip(parameter_names(function), row)))]
+            self.assertEqual(form(before), form(row))
             for answer in answers:
                 self.assertTrue(is_told(answer), (function.__name__, arguments, answer))
                 if told is None:
                     told = [answer]
-                self.assertEqual(repr(told[0]), repr(answer), (function.__name__, arguments))
+                self.assertEqual(form(told[0]), form(answer), (function.__name__, arguments))
         return told[0]
 
     def gives(self, answer, function, *arguments, paper=False):
         told = self.tell(function, *arguments, paper=paper)
-        self.assertEqual(repr(answer), repr(told), (function.__name__, arguments))
+        self.assertEqual(form(answer), form(told), (function.__name__, arguments))
 
     def fails(self, error, function, *arguments):
-        before = repr(arguments)
+        before = form(arguments)
         try:
             told = function(*arguments)
         except ShelfError as wrong:
             self.assertIs(type(error), type(wrong), (function.__name__, arguments, wrong))
-            self.assertEqual(repr(vars(error)), repr(vars(wrong)), (function.__name__, arguments))
-            self.assertEqual(before, repr(arguments))
+            self.assertEqual(form(vars(error)), form(vars(wrong)), (function.__name__, arguments))
+            self.assertEqual(before, form(arguments))
             return
         self.fail((function.__name__, arguments, "told", told, "not", error))
 

@@ -4,12 +4,16 @@ import importlib
 import unittest
 
 from slowshelves import (
-    ahead, blocks, calm, crossings, crowds, edits, endless, forks, gaps, keeper, levels, lists, rules, shares, shelves,
-    texts, tracks,
+    ahead, blocks, calm, crossings, crowds, cursors, edits, endless, forks, gaps, hindsight, house, keeper, levels, lists,
+    looks, loss, orders, rules, shares, shelves, texts, tracks, written,
 )
+from slowshelves.endless import Walker
 from slowshelves.errors import ShelfError
-from tests.support import ANY, Case, parameter_names
-from tests.wrongs import CROWD, KINDS, LAYOUT, LISTS, RUN, SHELF, TOUCHES, WEB
+from tests.support import ANY, Case, form, in_lists, parameter_names
+from slowshelves.hider import Hider
+from slowshelves.house import House
+from slowshelves.live import Live
+from tests.wrongs import CROWD, HOUSE, KINDS, LAYOUT, LISTS, OBJECTS, RUN, SHELF, TOUCHES, WEB
 
 S = ("shelf", SHELF, "shelf")
 W = ("web", WEB, "web")
@@ -41,6 +45,14 @@ CELL = ("cell", 3, "cell")
 LAID = [S, LB, ROOMS]
 PAPER = ("paper", shares.share_paper(SHELF, LAYOUT, 2), "paper")
 BEHIND = ("behind", 2, "behind")
+
+WRITES = ("writes", (4, 0), "writes")
+WEIGHTS = ("weights", ((1, 9), (0, 1), (2, 5)), "weights")
+TOLLS = ("tolls", (0, 3, 10 ** 6, 0, 7), "tolls")
+ASKED = [W, ("place", 1, "block"), ("asked", (3, 1, 0), "asked")]
+BEGINS = ("begins", (0, 2), "begins")
+BESIDE = [W, ROOMS, ("own", 2, "rooms"), RULE]
+HOUSED = ("house", HOUSE, "house")
 
 # For each function its arguments: name, a good one, the kind of wrong ones.
 FUNCTIONS = {
@@ -192,6 +204,67 @@ FUNCTIONS = {
         "beaten_walk": [W, ROOMS, RULE, BEHIND],
         "beaten_holds": [W, ROOMS, RULE, BEHIND, ANY_VALUE],
     },
+    hindsight: {
+        "run_memories": ROOMY + [("run", RUN, "run")],
+        "run_moves": ROOMY + [("run", RUN, "run")],
+        "far_run": ROOMY,
+        "least_moves": ROOMY,
+        "price_bound": ROOMY + [("prices", (3, 0), "prices")],
+        "hindsight_paper": ROOMY,
+        "hindsight_holds": ROOMY + [ANY_VALUE],
+        "beginning_moves": ROOMY,
+        "touch_depths": TOUCHED,
+        "rooms_moves": TOUCHED,
+        "gap_kinds": ROOMY,
+        "kind_paper": ROOMY + [("gap", (1, 4), "gap")],
+        "kind_holds": ROOMY + [("gap", (1, 4), "gap"), ANY_VALUE],
+    },
+    written: {
+        "toll_bound": ROOMY + [WEIGHTS, TOLLS],
+        "weighed_paper": ROOMY + [WEIGHTS],
+        "weighed_holds": ROOMY + [WEIGHTS, ANY_VALUE],
+        "written_cost": ROOMY + [WRITES, ("run", RUN, "run")],
+        "written_paper": ROOMY + [WRITES],
+        "writes_bound": ROOMY + [WRITES, TOLLS],
+        "even_paper": ROOMY + [("writes", (2,), "writes")],
+        "even_holds": ROOMY + [("writes", (2,), "writes"), ANY_VALUE],
+    },
+    orders: {
+        "order_steps": ASKED,
+        "order_paper": ASKED + [ROOMS],
+        "told_moves": ASKED + [ROOMS],
+    },
+    cursors: {
+        "weave_touches": [W, BEGINS, ("weave", ((1, 2), (0, 0), (0, 1), (1, 3)), "weave")],
+        "is_weave_calm": [W, ROOMS, BEGINS],
+        "weave_paper": [W, ROOMS, BEGINS, RULE],
+        "weave_holds": [W, ROOMS, BEGINS, RULE, ANY_VALUE],
+    },
+    loss: {
+        "walk_loss": BESIDE + [WALK],
+        "loss_paper": BESIDE,
+        "greatest_loss": BESIDE,
+        "loss_holds": BESIDE + [ANY_VALUE],
+        "quotient_paper": BESIDE,
+        "quotient_holds": BESIDE + [ANY_VALUE],
+        "losses_row": [W, ROOMS, ("word", "first in", "rule word")],
+    },
+    house: {
+        "deed_done": [HOUSED, ("deed", ("cell",), "deed")],
+    },
+    looks: {
+        "walked": [HOUSED, ("track", (0, 0, 1, 2), "track in a house")],
+        "look": [HOUSED, ("word", "calm", "look word")],
+        "look_holds": [HOUSED, ANY_VALUE],
+    },
+}
+
+# For each class likewise; none has arguments that are not told.
+CLASSES = {
+    Walker: [W, ROOMS],
+    Hider: [W, ROOMS, ("ahead", 0, "ahead")],
+    House: [S, ROOM, ("layout", LAYOUT, "layout in 2"), ROOMS, RULE],
+    Live: [HOUSED],
 }
 
 
@@ -200,6 +273,39 @@ class TestArguments(Case):
         for module, table in FUNCTIONS.items():
             for name, arguments in table.items():
                 yield getattr(module, name), [row[0] for row in arguments], [row[1:] for row in arguments]
+
+    def each_class(self):
+        for made, arguments in CLASSES.items():
+            yield made, [row[0] for row in arguments], [row[1:] for row in arguments]
+
+    def test_classes(self):
+        for made, names, rows in self.each_class():
+            self.assertEqual(names, parameter_names(made.__init__))
+            good = [good for good, _ in rows]
+            first = form(made(*good))
+            self.assertEqual(first, form(made(**dict(zip(names, good)))))
+            self.assertEqual(first, form(made(**dict(list(zip(names, good))[::-1]))))
+            self.assertEqual(first, form(made(*in_lists(good))))
+            self.assertRaises(TypeError, iter, made(*good))
+            self.assertRaises(TypeError, len, made(*good))
+            for at, (_, kind) in enumerate(rows):
+                later = [KINDS[other][0][0] for _, other in rows[at + 1:]]
+                for wrong, error in KINDS[kind] + [(item, KINDS[kind][0][1]) for item in OBJECTS if item != good[at]]:
+                    self.fails(error, made, *good[:at], wrong, *good[at + 1:])
+                    self.fails(error, made, *good[:at], wrong, *later)
+
+    def test_objects_are_no_other_values(self):
+        for function, _, rows in self.each():
+            good = [row[0] for row in rows]
+            for at in range(len(rows)):
+                for value in OBJECTS + tuple([item] for item in OBJECTS) + tuple((item, item) for item in OBJECTS):
+                    if value == good[at]:
+                        continue
+                    try:
+                        told = function(*good[:at], value, *good[at + 1:])
+                    except ShelfError:
+                        continue
+                    self.assertIs(told, False, (function.__name__, at, value))
 
     def test_names(self):
         for function, names, _ in self.each():
@@ -214,8 +320,8 @@ class TestArguments(Case):
     def test_good_ones_raise_nothing(self):
         for function, _, rows in self.each():
             good = [good for good, _ in rows]
-            if "paper" in [kind for _, kind in rows]:
-                # Lists do not stand for papers, or within them.
+            if {"paper", "deed"} & {kind for _, kind in rows}:
+                # Lists do not stand for papers, or within them, nor for deeds.
                 self.assertEqual(function(*good), function(**dict(zip(parameter_names(function), good))))
             else:
                 self.tell(function, *good)
@@ -234,6 +340,7 @@ class TestArguments(Case):
                 later = [KINDS[other][0][0] if KINDS[other] else None for _, other in rows[at + 1:]]
                 for wrong, error in KINDS[kind][::7]:
                     self.fails(error, function, *good[:at], wrong, *later)
+                    self.fails(error, function, *good[:at], wrong, *[worth for worth, _ in rows[at + 1:]])
 
     def test_any_values_raise_own_errors_alone(self):
         for function, _, rows in self.each():
@@ -254,7 +361,7 @@ class TestArguments(Case):
                     function(wrong, *good[1:])
                 except ShelfError:
                     pass
-            self.assertEqual(repr(first), repr(function(*good)))
+            self.assertEqual(form(first), form(function(*good)))
 
 
 if __name__ == "__main__":

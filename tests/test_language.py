@@ -148,8 +148,13 @@ class TestLanguage(unittest.TestCase):
         own = {node.name for _, node in nodes_of(ast.FunctionDef) if isinstance(node.parent, ast.ClassDef)} - {"__init__"}
         assigned = {node.attr for _, node in nodes_of(ast.Attribute) if isinstance(node.ctx, ast.Store)}
         self.assertEqual(set(), own & (assigned | METHODS))
+        classes = {node.name for _, node in nodes_of(ast.ClassDef)}
         for place, node in nodes_of(ast.Attribute):
-            if isinstance(node.parent, ast.Call) and node.parent.func is node:
+            if node.attr == "__init__":
+                # The one of a base class, called with the own object in front.
+                self.assertTrue(node.value.id in classes and node.parent.func is node, place)
+                self.assertEqual("self", node.parent.args[0].id, place)
+            elif isinstance(node.parent, ast.Call) and node.parent.func is node:
                 self.assertIn(node.attr, METHODS - {"sort"} | own, place)
             else:
                 self.assertIn(node.attr, assigned, place)
@@ -161,6 +166,31 @@ class TestLanguage(unittest.TestCase):
                     for part in ast.walk(method) if isinstance(part, ast.Attribute) and isinstance(part.ctx, ast.Store)}
             later = {part.attr for part in ast.walk(node) if isinstance(part, ast.Attribute) and isinstance(part.ctx, ast.Store)}
             self.assertEqual(made, later, place)
+
+    def test_listed_methods_stand_in_their_classes(self):
+        listed = {"Walker": {"next_block", "mate_run", "touched"}, "Hider": {"seen", "touched", "mate", "behind"},
+                  "House": {"__eq__"}, "Live": {"go", "do", "lift", "undo", "redo", "sheet"}, "Desk": {"say"}}
+        own = {node.name: {method.name for method in node.body if isinstance(method, ast.FunctionDef)}
+               for _, node in nodes_of(ast.ClassDef)}
+        for name, methods in listed.items():
+            self.assertLessEqual(methods, own[name])
+
+    def test_equality_is_one_return(self):
+        for place, node in nodes_of(ast.FunctionDef):
+            if node.name in ("__eq__", "__len__", "__repr__", "__str__"):
+                self.assertEqual([ast.Return], [type(row) for row in node.body], place)
+
+    def test_caught_errors_are_own_ones(self):
+        own = {node.name for _, node in nodes_of(ast.ClassDef)}
+        for place, node in nodes_of(ast.ExceptHandler):
+            names = node.type.elts if isinstance(node.type, ast.Tuple) else [node.type]
+            self.assertLessEqual({name.id for name in names}, own, place)
+
+    def test_what_is_raised_is_made_on_the_spot(self):
+        own = {node.name for _, node in nodes_of(ast.ClassDef)}
+        for place, node in nodes_of(ast.Raise):
+            self.assertIn(called(node.exc), own, place)
+            self.assertIn(type(node.cause), (type(None), ast.Constant), place)
 
     def test_words(self):
         for name, text, tree in FILES:

@@ -2,17 +2,23 @@
 
 from slowshelves.errors import (
     InvalidAnswers,
+    InvalidBegins,
     InvalidBlock,
     InvalidCell,
+    InvalidCommand,
+    InvalidDeed,
     InvalidEdit,
     InvalidFold,
     InvalidGaps,
+    InvalidHouse,
     InvalidIndex,
     InvalidLayout,
     InvalidLengths,
     InvalidLists,
+    InvalidLot,
     InvalidOrder,
     InvalidPaper,
+    InvalidPrices,
     InvalidRoom,
     InvalidRooms,
     InvalidRows,
@@ -23,8 +29,16 @@ from slowshelves.errors import (
     InvalidText,
     InvalidTrack,
     InvalidWalk,
+    InvalidWeave,
     InvalidWeb,
+    InvalidWeights,
+    InvalidWrites,
 )
+from slowshelves.desk import Desk
+from slowshelves.endless import Walker
+from slowshelves.hider import Hider
+from slowshelves.house import House
+from slowshelves.live import Live
 from tests.support import ANY, NO_NUMBER, NO_SEQUENCE
 
 HUGE = 10 ** 30
@@ -40,6 +54,10 @@ TOUCHES = (0, 1, 2, 0, 1)
 RUN = ((), (), (0,), (1,), (2,))
 # Rows of two touches and of one.
 CROWD = ((0, 1), (2,))
+HOUSE = House(SHELF, 2, LAYOUT, 2, "last used")
+STAR = (4, ((0, 1), (0, 2), (0, 3)))
+# One of each class that is no error.
+OBJECTS = (HOUSE, Live(HOUSE), Desk(), Walker(STAR, 3), Hider(STAR, 3, 1))
 
 
 def wrong_places(good, wrong, error):
@@ -226,6 +244,112 @@ def rules():
     return whole + [((2, row), error) for row, error in wrong_places(good, rows, InvalidRule)] + again
 
 
+def moments(error):
+    """Wrong rows of unlike moments of TOUCHES."""
+    whole = [(item, error(-1)) for item in NO_SEQUENCE + OBJECTS]
+    again = [((1, 1), error(1)), ([0, 4, 2, 0, "bad"], error(3)), ((0, 1, 2, 3, 4, 0), error(5))]
+    return whole + wrong_places([3, 0, 4], NO_NUMBER + OBJECTS + (5, HUGE), error) + again
+
+
+def one_gap():
+    """Wrong gaps of TOUCHES."""
+    wrong = NO_PAIR + OBJECTS + ((0, 4), (3, 0), (0, 1), (1, 3), (4, 5), (0, 3, 4), (-1, 3), (HUGE, HUGE), (0, 0))
+    wrong += tuple((0, item) for item in NO_NUMBER) + tuple([item, 3] for item in NO_NUMBER) + ((True, 4), (False, 3))
+    return [(item, InvalidGaps(-1)) for item in wrong]
+
+
+def weights():
+    """Wrong weights of TOUCHES."""
+    good = [(1, 9), [0, 1], (2, 5)]
+    pairs = NO_PAIR + OBJECTS + ((1, 9, 1), (3, 1), (-1, 1), (HUGE, 1), (0, 0), (0, 10), (1, HUGE), [2, -1])
+    pairs += tuple((item, 1) for item in NO_NUMBER) + tuple([0, item] for item in NO_NUMBER)
+    whole = [(item, InvalidWeights(-1)) for item in NO_SEQUENCE + OBJECTS + ((), good[:2], tuple(good) + ((3, 1),), ["bad"] * 4)]
+    places = [(good[:at] + [pair] + good[at + 1:], InvalidWeights(at)) for at in range(3) for pair in pairs]
+    places += [(tuple(good[:at]) + (pair,) * (3 - at), InvalidWeights(at)) for at in range(3) for pair in pairs]
+    return whole + places + [(((1, 9), (1, 9), "bad"), InvalidWeights(1)), ([(1, 9), (0, 1), [1, 2]], InvalidWeights(2))]
+
+
+def tolls():
+    """Wrong tolls of TOUCHES."""
+    whole = [(item, InvalidPrices(-1)) for item in NO_SEQUENCE + OBJECTS + ((), (0,) * 4, [0] * 6, ["bad"] * 4, ("bad",) * 6)]
+    rows = []
+    for at in range(5):
+        for item in NO_NUMBER + OBJECTS:
+            rows.append(([3] * at + [item] + [0] * (4 - at), InvalidPrices(at)))
+            rows.append(((HUGE,) * at + (item,) * (5 - at), InvalidPrices(at)))
+    return whole + rows
+
+
+def asked():
+    """Wrong rows of unlike blocks of WEB."""
+    whole = [(item, InvalidLot(-1)) for item in NO_SEQUENCE + OBJECTS]
+    again = [((1, 1), InvalidLot(1)), ([0, 3, 2, 0, "bad"], InvalidLot(3)), ((0, 1, 2, 3, 0), InvalidLot(4))]
+    return whole + wrong_places([3, 0, 2], NO_NUMBER + OBJECTS + (4, 40, HUGE), InvalidLot) + again
+
+
+def begins():
+    """Wrong begins on WEB."""
+    whole = [(item, InvalidBegins(-1)) for item in NO_SEQUENCE + OBJECTS + ((), (0,), [3], (0,) * 5, ["bad"] * 5, ("bad",))]
+    rows = []
+    for many in (2, 3, 4):
+        for at in range(many):
+            for item in NO_NUMBER + OBJECTS + (4, 40, HUGE):
+                rows.append(([3] * at + [item] + [0] * (many - 1 - at), InvalidBegins(at)))
+                rows.append(((0,) * at + (item,) * (many - at), InvalidBegins(at)))
+    return whole + rows
+
+
+def weaves():
+    """Wrong weaves on WEB from (0, 2)."""
+    good = [(1, 2), [0, 0], (0, 1), (1, 3)]
+    pairs = NO_PAIR + OBJECTS + ((0, 0, 0), (2, 0), (-1, 0), (HUGE, 0), (0, 4), (0, HUGE), (1, 0))
+    pairs += tuple((item, 1) for item in NO_NUMBER) + tuple([0, item] for item in NO_NUMBER)
+    whole = [(item, InvalidWeave(-1)) for item in NO_SEQUENCE + OBJECTS + ((), [], [(0, 0)] * 401, ["bad"] * 401)]
+    first = [([(0, 1)], InvalidWeave(0)), (((1, 3),), InvalidWeave(0)), ([(0, 0), (1, 1)], InvalidWeave(1))]
+    later = [([(0, 0), (0, 2)], InvalidWeave(1)), (((0, 0), (1, 2), (1, 0)), InvalidWeave(2))]
+    return whole + wrong_places(good, pairs, InvalidWeave) + first + later
+
+
+def no_words():
+    return ANY + OBJECTS + ("last", "lastused", "last  used", "Last used", " last used", ("last used",), ["first in"])
+
+
+def houses():
+    parts = (SHELF, 2, LAYOUT, 2, "last used")
+    return [(item, InvalidHouse(-1)) for item in ANY + OBJECTS[1:] + (parts, list(parts))]
+
+
+def deeds():
+    """Wrong deeds of HOUSE."""
+    wrong = list(ANY + OBJECTS) + [["cell"], ["chain", "list", (0,)], ("Cell",), ("cell", 0), ("cell", ()), ("calm", 0), ("",), (("cell",),)]
+    wrong += [("chain",), ("chain", "list"), ("chain", "list", (0,), 0), ("chain", ("list", (0,))), ("chain", "ring", (0, 1)), ("chain", "list", ())]
+    wrong += [("chain", kind, (0, 1, 2)) for kind in NO_NUMBER + ("rings", "List", 0) if kind != "list"]
+    wrong += [("chain", "list", row) for row in NO_SEQUENCE + ((4,), (0, 0), (0, True), ("0",))]
+    wrong += [(word,) for word in ("strike", "move", "join", "lay", "room", "rooms", "rule")]
+    wrong += [(word, 0, 1, 2) for word in ("strike", "move", "join", "lay", "room", "rooms", "rule")]
+    wrong += [("strike", 0, 0), ("move", 0), ("join", 0), ("lay", LAYOUT, LAYOUT), ("room", 2, 2), ("rooms", 2, 2), ("rule", "last used", 0)]
+    wrong += [("strike", item) for item in NO_NUMBER + (3, HUGE)]
+    wrong += [("move", item, 0) for item in NO_NUMBER + (4, HUGE)] + [("move", 0, item) for item in NO_NUMBER + (4, HUGE)]
+    wrong += [("join", item, 0) for item in NO_NUMBER + (3, HUGE)] + [("join", 0, item) for item in NO_NUMBER + (3, HUGE)]
+    wrong += [("join", at, at) for at in range(3)]
+    wrong += [("lay", row) for row in NO_SEQUENCE + ((), (0,) * 3, (0,) * 5, (0, 0, 0, 200), [0, True, 0, 0], ("0",) * 4)]
+    wrong += [("room", item) for item in NO_NUMBER + (0, 9, HUGE)] + [("rooms", item) for item in NO_NUMBER + (0, 6, HUGE)]
+    wrong += [("rule", item) for item, _ in rules()]
+    return [(item, InvalidDeed(-1)) for item in wrong if item != ("calm",)]
+
+
+def look_words():
+    wrong = ANY + OBJECTS + ("Calm", "calm ", "walked", "cross", ("calm",), ["laid"], "boxes")
+    return [(item, InvalidCommand()) for item in wrong if item != "calm"]
+
+
+def walked_tracks():
+    """Wrong tracks of HOUSE."""
+    long = [((0,) * 401, InvalidTrack(-1)), ([0] * 1001, InvalidTrack(-1)), (["bad"] * 401, InvalidTrack(-1))]
+    tracks = [row for row in KINDS["track"] if not (isinstance(row[0], (list, tuple)) and len(row[0]) > 400)]
+    return tracks + long
+
+
 def crowd_rows():
     rows = NO_SEQUENCE + ((), [], (0,) * 61) + tuple((0, item) for item in NO_NUMBER + (40, HUGE))
     whole = [(item, InvalidRows(-1)) for item in NO_SEQUENCE + ((), [], ((0,),) * 5, ["bad"] * 5)]
@@ -300,4 +424,17 @@ KINDS = {
     "web text": texts("web 4\n1 to 0 2 3"),
     "walk text": texts("0 1 2 3 1 0"),
     "any": [],
+    "prices": moments(InvalidPrices),
+    "writes": moments(InvalidWrites),
+    "gap": one_gap(),
+    "weights": weights(),
+    "tolls": tolls(),
+    "asked": asked(),
+    "begins": begins(),
+    "weave": weaves(),
+    "rule word": [(item, InvalidRule(-1)) for item in no_words()],
+    "house": houses(),
+    "deed": deeds(),
+    "look word": look_words(),
 }
+KINDS["track in a house"] = walked_tracks()
