@@ -16,6 +16,7 @@ from tests import support
 from tests.support import (
     ANY, Case, all_webs, bools_within, calm_by_words, least_moves, line, lists_within, ring, rows_of, unlike_webs, walks_of, whole,
 )
+from tests.test_gaps import all_runs
 from tests.test_rules import random_table, run_by_eye
 
 STAR = (4, ((0, 1), (0, 2), (0, 3)))
@@ -169,6 +170,25 @@ class TestLoss(Case):
         for web, rooms, own, rule in ((line(3), 2, 3, "first in"), (line(4), 3, 4, "first in"), (STAR, 2, 2, "last used"), (line(4), 2, 2, "last used")):
             losses = [walk_loss(web, rooms, own, rule, walk) for walk in short_walks(web, 7)]
             self.assertEqual(max(losses), greatest_loss(web, rooms, own, rule))
+
+    def test_all_runs_on_short_walks(self):
+        """No mate at all gains more than is told, nor goes by more than the quotient."""
+        for web in [*all_webs(3), line(4), STAR]:
+            for rooms in (1, 2, 3):
+                for own, rule in ((2, "last used"), (3, "first in"), (3, (1, ())), (5, "last used")):
+                    told = greatest_loss(web, rooms, own, rule)
+                    quotient = quotient_paper(web, rooms, own, rule)
+                    first = dict(quotient[3])[first_by_eye(rule)] if quotient[0] == "quotient" else 0
+                    for walk in short_walks(web, 5):
+                        moves = sum(row[0] for row in run_by_eye(own, rule, walk))
+                        fewest = []
+                        for _, memories in all_runs(walk, (rooms,) * len(walk)):
+                            fewest.append(sum(at == 0 or block not in memories[at - 1] for at, block in enumerate(walk)))
+                            if quotient[0] == "quotient":
+                                self.assertLessEqual(quotient[2] * moves, quotient[1] * fewest[-1] + first)
+                        self.assertEqual(moves - min(fewest), walk_loss(web, rooms, own, rule, walk))
+                        if told is not None:
+                            self.assertLessEqual(moves - min(fewest), told)
 
     def test_five_blocks(self):
         for web in list(unlike_webs(5))[::2]:
