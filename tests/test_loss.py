@@ -309,18 +309,26 @@ class TestLoss(Case):
         self.fails(InvalidWalk(-1), walk_loss, line(3), 1, 1, "last used", ())
         self.fails(InvalidWalk(1), walk_loss, line(3), 1, 1, "last used", (0, 2))
 
-    def test_standings_counted(self):
-        """Just those that can be met are counted: 20,000 of them are let."""
-        let = refused = 0
-        for web, rooms, own, rule in ((whole(6), 2, 3, "first in"), (whole(7), 2, 5, "last used"), (ring(40), 3, 3, "last used")):
-            if len(met_by_eye(web, rooms, own, rule)) > 20000:
-                self.fails(InvalidSize("standings"), loss_paper, web, rooms, own, rule)
-                self.fails(InvalidSize("standings"), quotient_holds, web, rooms, own, rule, None)
-                refused += 1
-            else:
-                self.holds(loss_holds, web, rooms, own, rule, loss_paper(web, rooms, own, rule))
-                let += 1
-        self.assertTrue(let and refused)
+    def beside(self, *webs):
+        """The web of these beside one another."""
+        many, links = 0, []
+        for web in webs:
+            links += [(one + many, other + many) for one, other in web[1]]
+            many += web[0]
+        return many, tuple(links)
+
+    def test_20000_standings(self):
+        """Just those that can be met are counted."""
+        web = self.beside(whole(7), ring(10), line(4), line(4))
+        parts = [len(met_by_eye(part, 2, 5, "last used")) - 1 for part in (ring(10), line(4), line(1))]
+        self.assertEqual([1790, 50, 1], parts)
+        paper = quotient_paper(web, 2, 5, "last used")
+        self.assertEqual(20000, len(paper[3]))
+        self.assertIs(True, quotient_holds(web, 2, 5, "last used", paper))
+        self.assertIs(True, loss_holds(web, 2, 5, "last used", loss_paper(web, 2, 5, "last used")))
+        more = self.beside(web, line(1))
+        for function, last in ((loss_paper, ()), (greatest_loss, ()), (quotient_paper, ()), (loss_holds, (paper,)), (quotient_holds, (paper,))):
+            self.fails(InvalidSize("standings"), function, more, 2, 5, "last used", *last)
 
 
 class TestQuotient(Case):
@@ -419,6 +427,9 @@ class TestRows(Case):
         self.gives((None, 0), losses_row, line(3), 2, "first in")
         self.gives((0,), losses_row, whole(4), 5, "first in")
         self.gives((0,), losses_row, whole(4), 1, "first in")
+        self.gives((None,), losses_row, whole(6), 5, "last used")
+        self.gives((None, None), losses_row, whole(6), 4, "last used")
+        self.gives((None, None, None, 0), losses_row, whole(5), 2, "last used")
 
     def test_rows(self):
         for web in [*all_webs(3), *unlike_webs(4)]:
