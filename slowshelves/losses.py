@@ -70,7 +70,10 @@ def greatest_gains(steps, weights):
     waiting = list(range(len(steps)))[::-1]
     ring = ()
     while waiting and not ring:
-        raised = [number for number in waiting if _raise_gain(steps[number], weights, gains, choices, number)]
+        raised = []
+        for number in waiting:
+            if _raise_gain(steps[number], weights, gains, choices, number):
+                raised.append(number)
         # Each choice was more than was known, so choices lead round a ring only if it gains.
         ring = _choice_ring(choices)
         waiting = sorted(set([other for number in raised for other in ahead[number]]), reverse=True)
