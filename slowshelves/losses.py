@@ -76,7 +76,7 @@ def greatest_gains(steps, weights):
                 raised.append(number)
         # Each choice was more than was known, so choices lead round a ring only if it gains.
         ring = _choice_ring(choices)
-        waiting = sorted(set([other for number in raised for other in ahead[number]]), reverse=True)
+        waiting = sorted(set([other for number in raised for other in ahead[number]]))[::-1]
     return gains, choices, ring
 
 

@@ -36,14 +36,18 @@ NODES = (
 EAGER = {"list", "tuple", "dict", "sorted", "sum", "any", "all", "enumerate", "zip", "min", "max"}
 
 
+def tree_with_parents(text):
+    tree = ast.parse(text)
+    for node in ast.walk(tree):
+        for child in ast.iter_child_nodes(node):
+            child.parent = node
+    return tree
+
+
 def parsed():
     for path in sorted(FOLDER.glob("*.py")):
         text = path.read_text(encoding="utf-8")
-        tree = ast.parse(text)
-        for node in ast.walk(tree):
-            for child in ast.iter_child_nodes(node):
-                child.parent = node
-        yield path.stem, text, tree
+        yield path.stem, text, tree_with_parents(text)
 
 
 FILES = list(parsed())
@@ -58,6 +62,53 @@ def nodes_of(kind):
 
 def called(node):
     return node.func.id if isinstance(node, ast.Call) and isinstance(node.func, ast.Name) else None
+
+
+def is_set(node):
+    return called(node) == "set" or isinstance(node, (ast.Set, ast.SetComp))
+
+
+def set_joins(node):
+    return isinstance(node, ast.BinOp) and isinstance(node.op, (ast.Sub, ast.BitAnd, ast.BitOr, ast.BitXor))
+
+
+def is_all_sets(node):
+    """Whether this is a set that is written there, or several of them joined by signs."""
+    return is_all_sets(node.left) and is_all_sets(node.right) if set_joins(node) else is_set(node)
+
+
+def may_be_compared(node):
+    """Whether a set stands behind each "in" of a comparison, and beside another set at each other sign."""
+    sides = [node.parent.left] + node.parent.comparators
+    for before, sign, behind in zip(sides, node.parent.ops, sides[1:]):
+        if node in (before, behind):
+            alike = isinstance(sign, (ast.Eq, ast.NotEq)) and is_all_sets(before) and is_all_sets(behind)
+            if not alike and not (isinstance(sign, (ast.In, ast.NotIn)) and behind is node):
+                return False
+    return True
+
+
+def may_be_passed(node):
+    """Whether a set is all that sorted or len gets; a literal by itself may have a told reverse beside it."""
+    call = node.parent
+    if called(call) not in ("sorted", "len") or call.args != [node]:
+        return False
+    told = called(call) == "sorted" and isinstance(node, ast.Set)
+    return all(told and word.arg == "reverse" and isinstance(word.value, ast.Constant)
+               and isinstance(word.value.value, bool) for word in call.keywords)
+
+
+def set_may_stand(node):
+    """L24 for a set that is written there and not kept."""
+    while set_joins(node.parent):
+        node = node.parent
+    if not is_all_sets(node):
+        return False
+    return may_be_compared(node) if isinstance(node.parent, ast.Compare) else may_be_passed(node)
+
+
+def wrong_sets(tree):
+    return [node for node in ast.walk(tree) if is_set(node) and not set_may_stand(node)]
 
 
 def bound_names(tree):
@@ -214,11 +265,38 @@ class TestLanguage(unittest.TestCase):
                     self.assertIsInstance(right, ast.Constant, place)
                     self.assertIn(repr(right.value), ("None", "True", "False"), place)
 
-    def test_sets_stand_in_sorted_or_len(self):
-        for place, node in nodes_of(ast.Call):
-            if called(node) == "set":
-                self.assertIn(called(node.parent), ("sorted", "len"), place)
+    def test_sets_stand_where_they_may(self):
+        for name, _, tree in FILES:
+            self.assertEqual([], [node.lineno for node in wrong_sets(tree)], name)
+        # The package keeps no sets and does without literals of them.
         self.assertEqual([], list(nodes_of(ast.Set)))
+
+    def test_right_places_of_sets_are_let(self):
+        for text in (
+            "sorted(set(xs))", "sorted(set(xs))[::-1]", "len(set(xs))", "len(set())", "sorted({x for x in xs})",
+            "sorted({'a', k})", "sorted({'a', k}, reverse=True)", "sorted({'a', k}, reverse=False)",
+            "sorted(set(xs) - {k})", "len(set(xs) & set(ys) | {x for x in zs})", "k in set(xs)", "k not in {1, k}",
+            "k in set(xs) ^ set(ys)", "set(xs) == set(ys)", "{x for x in xs} != set(ys) - {k}",
+            "sorted(xs, key=len, reverse=True)", "sorted(sorted(set(xs)), reverse=True)", "sorted([len(set(xs))], reverse=k)",
+        ):
+            with self.subTest(text):
+                self.assertEqual([], wrong_sets(tree_with_parents(text)))
+
+    def test_wrong_places_of_sets_are_told(self):
+        sets = ("set(xs)", "set()", "set([x for row in xs for x in row])", "{x for x in xs}", "set(xs) - {k}", "{k} | set(xs)",
+                "{1, k} ^ {2, k}", "(set(xs) & {x for x in ys}) - {k}")
+        words = ("reverse=True", "reverse=False", "reverse=k", "key=len", "key=lambda x: -x", "key=len, reverse=True", "**k")
+        wrong = [f"sorted({text}, {word})" for text in sets for word in words]
+        wrong += [f"sorted({{'a', k}}, {word})" for word in words[2:] + ("reverse=1", "reverse=None")]
+        wrong += [form.format(text) for text in sets + ("{'a', k}",) for form in (
+            "list({})", "sum({})", "sorted(list({}), reverse=True)", "sorted({} or xs, reverse=True)", "sorted([*{}])",
+            "sorted({} if k else xs)", "[x for x in {}]", "seen = {}", "told({})", "sorted(*{})", "max(xs, key={})",
+            "sorted(({}) - seen)", "len(seen | ({}))", "({}) == seen", "seen != ({})", "({}) < set(ys)", "({}) in seen",
+            "seen == k in ({}) == xs", "set({})", "for x in {}:\n    pass", "sorted(xs, key={})", "len(xs, {})",
+        )]
+        for text in wrong:
+            with self.subTest(text):
+                self.assertNotEqual([], wrong_sets(tree_with_parents(text)))
 
     def test_ranges_are_iterated_at_once(self):
         for place, node in nodes_of(ast.Call):
